@@ -8,11 +8,7 @@ import (
 
 	"instar/api"
 	"instar/forest"
-)
-
-const (
-	greatest = int(^uint(0) >> 1)
-	least    = -greatest - 1
+	"instar/sample"
 )
 
 // checkRight asks Right, and, of a forest that isn't right, whether all other calls tell so.
@@ -63,7 +59,7 @@ func TestRight(t *testing.T) {
 
 // P3.1: how many nodes there are, and may be.
 func TestMost(t *testing.T) {
-	for _, most := range []int{least, -400, -1, 0, 1, 2, 20, 21, 22, 399, 400, 401, 402, 1 << 20, greatest} {
+	for _, most := range []int{sample.Least, -400, -1, 0, 1, 2, 20, 21, 22, 399, 400, 401, 402, 1 << 20, sample.Greatest} {
 		what := "Most " + strconv.Itoa(most)
 		f := grove(t) // of 21 nodes
 		f.Most = most
@@ -94,8 +90,8 @@ func do(n int, change func(x *api.Node)) func(f *api.Forest) {
 // wrongKinds, wrongKin and wrongShadows are the single ways in which the grove isn't right any more, told by what is done to it.
 func wrongKinds() map[string]func(f *api.Forest) {
 	return map[string]func(f *api.Forest){
-		"node 0 an Elem":          func(f *api.Forest) { *f = headless(0, elem("p")) },
-		"node 0 a Text":           func(f *api.Forest) { *f = headless(0, text("")) },
+		"node 0 an Elem":          func(f *api.Forest) { *f = headless(0, sample.Elem("p")) },
+		"node 0 a Text":           func(f *api.Forest) { *f = headless(0, sample.Text("")) },
 		"node 0 a Frag":           func(f *api.Forest) { *f = headless(0, api.Node{Kind: api.Frag}) },
 		"node 0 a Frag, of a Doc": func(f *api.Forest) { *f = headless(1, api.Node{Kind: api.Frag}) },
 		"Kind 5":                  do(20, func(x *api.Node) { x.Kind, x.Data = 5, "" }),
@@ -128,8 +124,8 @@ func wrongKin() map[string]func(f *api.Forest) {
 		"a kid of two, both Docs":    do(17, func(x *api.Node) { x.Kids = []int{3} }),
 		"a kid that is no node":      do(2, func(x *api.Node) { x.Kids = []int{4, 1, 21} }),
 		"a kid that is None":         do(2, func(x *api.Node) { x.Kids = []int{4, 1, -1} }),
-		"the greatest kid":           do(2, func(x *api.Node) { x.Kids = []int{greatest, 4, 1} }),
-		"the least kid":              do(2, func(x *api.Node) { x.Kids = []int{least, 4, 1} }),
+		"the greatest kid":           do(2, func(x *api.Node) { x.Kids = []int{sample.Greatest, 4, 1} }),
+		"the least kid":              do(2, func(x *api.Node) { x.Kids = []int{sample.Least, 4, 1} }),
 		"a Text with a Text":         func(f *api.Forest) { hang(*f, 4, 20) },
 		"a Text with an Elem":        func(f *api.Forest) { hang(*f, 20, 14); hang(*f, 11, 15, 16) },
 		"a Doc with a Text":          func(f *api.Forest) { hang(*f, 0, 3, 20) },
@@ -267,7 +263,7 @@ func TestRings(t *testing.T) {
 	hang(self, 11, 15, 16)
 	checkRight(t, "its own child", self, false)
 
-	two := plant(t, newForest(t, 9), elem("a"), elem("a"))
+	two := plant(t, newForest(t, 9), sample.Elem("a"), sample.Elem("a"))
 	hang(two, 1, 2)
 	checkRight(t, "no ring yet", two, true)
 	hang(two, 2, 1)
@@ -282,9 +278,9 @@ func TestRings(t *testing.T) {
 	hang(through, 12, 7, 3, 10)
 	checkRight(t, "in its own shadow, among others", through, false)
 
-	hosts := plant(t, newForest(t, 9), elem("a"), elem("b"))
-	hang(hosts, cast(&hosts, 1), 2)
-	hang(hosts, cast(&hosts, 2), 1)
+	hosts := plant(t, newForest(t, 9), sample.Elem("a"), sample.Elem("b"))
+	hang(hosts, sample.Cast(&hosts, 1), 2)
+	hang(hosts, sample.Cast(&hosts, 2), 1)
 	checkRight(t, "each in the other's shadow", hosts, false)
 
 	for _, shadows := range []bool{false, true} {
@@ -348,16 +344,16 @@ func TestChanges(t *testing.T) {
 
 // P3.1: each two changes of a small forest that has each kind of node, held against the words.
 func TestChangesByTwos(t *testing.T) {
-	f := plant(t, newForest(t, 9), elem("p"), text("t"))
+	f := plant(t, newForest(t, 9), sample.Elem("p"), sample.Text("t"))
 	hang(f, 0, 1)
-	hang(f, cast(&f, 1), 2)
-	f = plant(t, f, elem("b"), api.Node{Kind: api.Frag})
+	hang(f, sample.Cast(&f, 1), 2)
+	f = plant(t, f, sample.Elem("b"), api.Node{Kind: api.Frag})
 	hang(f, 5, 4)
 	all := changes(len(f.Nodes))
 	right := 0
 	for _, do := range all {
 		for _, doMore := range all {
-			g := copyOf(f)
+			g := sample.Copy(f)
 			do(&g)
 			doMore(&g)
 			want := rightByWords(g)

@@ -7,83 +7,28 @@ import (
 
 	"instar/api"
 	"instar/forest"
+	"instar/sample"
 )
-
-// roomy answers f with room to spare behind each of its lists, and what stands in those with the room.
-func roomy(f api.Forest) (api.Forest, api.Forest) {
-	spare := api.Node{Kind: 77, Name: "spare", Doc: 77, Parent: 77, Host: 77, Under: 77}
-	whole := copyOf(f)
-	for i, n := range whole.Nodes {
-		whole.Nodes[i].Kids = append(slices.Clone(n.Kids), 77, 78, 79)
-		whole.Nodes[i].Attrs = append(slices.Clone(n.Attrs), api.Attr{Name: "spare"}, api.Attr{Value: "spare"})
-	}
-	whole.Nodes = append(whole.Nodes, spare, spare, spare)
-	g := api.Forest{Nodes: slices.Clone(whole.Nodes)[:len(f.Nodes)], Most: f.Most}
-	for i, n := range f.Nodes {
-		g.Nodes[i].Kids = slices.Clone(whole.Nodes[i].Kids)[:len(n.Kids)]
-		g.Nodes[i].Attrs = slices.Clone(whole.Nodes[i].Attrs)[:len(n.Attrs)]
-	}
-	return g, whole
-}
-
-// spread answers f with all the room that its lists have.
-func spread(f api.Forest) api.Forest {
-	g := api.Forest{Nodes: slices.Clone(f.Nodes[:cap(f.Nodes)]), Most: f.Most}
-	for i, n := range g.Nodes {
-		g.Nodes[i].Kids, g.Nodes[i].Attrs = n.Kids[:cap(n.Kids)], n.Attrs[:cap(n.Attrs)]
-	}
-	return g
-}
-
-// stays tells whether f has in it, and behind it, what whole says.
-func stays(f, whole api.Forest) bool {
-	now := spread(f)
-	if len(now.Nodes) < len(whole.Nodes) {
-		return false
-	}
-	for i, n := range whole.Nodes {
-		m := now.Nodes[i]
-		m.Kids, m.Attrs = m.Kids[:min(len(n.Kids), len(m.Kids))], m.Attrs[:min(len(n.Attrs), len(m.Attrs))]
-		if !sameNode(m, n) {
-			return false
-		}
-	}
-	return f.Most == whole.Most
-}
-
-// scribble changes all that hangs on f, spare room and all.
-func scribble(f api.Forest) {
-	all := f.Nodes[:cap(f.Nodes)]
-	for i, n := range all {
-		for j := range n.Kids[:cap(n.Kids)] {
-			n.Kids[:cap(n.Kids)][j] = 999
-		}
-		for j := range n.Attrs[:cap(n.Attrs)] {
-			n.Attrs[:cap(n.Attrs)][j] = api.Attr{Name: "mine", Value: "mine"}
-		}
-		all[i] = api.Node{Kind: 999, Name: "mine"}
-	}
-}
 
 // checkMake makes n in f, and checks the answer, and that what was handed in stays: the forest, the node's lists.
 func checkMake(t *testing.T, what string, f api.Forest, n api.Node, want api.Forest, number int, fault api.Errno) {
 	t.Helper()
-	given, whole := roomy(f)
+	given, whole := sample.Roomy(f)
 	attrs, kids := slices.Clone(n.Attrs), slices.Clone(n.Kids)
 	n.Attrs = append(slices.Clone(n.Attrs), api.Attr{Name: "spare"})[:len(attrs)]
 	n.Kids = append(slices.Clone(n.Kids), 77)[:len(kids)]
 	g, at, err := forest.Make(given, n)
-	if !same(g, want) || at != number || err != fault {
+	if !sample.Same(g, want) || at != number || err != fault {
 		t.Errorf("%s: Make = %v, %d, %d, not %v, %d, %d", what, g, at, err, want, number, fault)
 	}
 	if err == api.OK && !rightByWords(g) {
 		t.Errorf("%s: made what isn't right: %v", what, g)
 	}
-	if !stays(given, whole) {
+	if !sample.Stays(given, whole) {
 		t.Errorf("%s: Make changed the forest that was handed in", what)
 	}
-	scribble(g)
-	if !stays(given, whole) || !slices.Equal(n.Attrs, attrs) || !slices.Equal(n.Kids, kids) {
+	sample.Scribble(g)
+	if !sample.Stays(given, whole) || !slices.Equal(n.Attrs, attrs) || !slices.Equal(n.Kids, kids) {
 		t.Errorf("%s: Make's answer shares memory with what was handed in", what)
 	}
 	if n.Attrs[:cap(n.Attrs)][len(attrs)].Name != "spare" || n.Kids[:cap(n.Kids)][len(kids)] != 77 {
@@ -93,7 +38,7 @@ func checkMake(t *testing.T, what string, f api.Forest, n api.Node, want api.For
 
 // with is f with a node more.
 func with(f api.Forest, n api.Node) api.Forest {
-	g := copyOf(f)
+	g := sample.Copy(f)
 	g.Nodes = append(g.Nodes, n)
 	return g
 }
@@ -107,18 +52,18 @@ func TestNew(t *testing.T) {
 			want, fault = api.Forest{}, api.ErrArg
 		}
 		f, err := forest.New(most)
-		if !same(f, want) || err != fault || forest.Right(f) != (fault == api.OK) {
+		if !sample.Same(f, want) || err != fault || forest.Right(f) != (fault == api.OK) {
 			t.Errorf("New(%d) = %v, %d", most, f, err)
 		}
 	}
-	for _, most := range []int{least, -401, -400, 1 << 20, greatest} {
-		if f, err := forest.New(most); !same(f, api.Forest{}) || err != api.ErrArg {
+	for _, most := range []int{sample.Least, -401, -400, 1 << 20, sample.Greatest} {
+		if f, err := forest.New(most); !sample.Same(f, api.Forest{}) || err != api.ErrArg {
 			t.Errorf("New(%d) = %v, %d", most, f, err)
 		}
 	}
 	one, other := newForest(t, 9), newForest(t, 9)
-	scribble(one)
-	if !same(other, newForest(t, 9)) {
+	sample.Scribble(one)
+	if !sample.Same(other, newForest(t, 9)) {
 		t.Error("two new forests share memory")
 	}
 }
@@ -129,10 +74,10 @@ func TestMake(t *testing.T) {
 	attrs := []api.Attr{{Name: "b", Value: "2"}, {Name: "a", Value: long(200)}}
 	for _, doc := range []int{0, 17} {
 		for what, n := range map[string]api.Node{
-			"Elem":             elem("p"),
+			"Elem":             sample.Elem("p"),
 			"Elem, all fields": {Kind: api.Elem, Name: "x-a", Is: "x-b", Attrs: attrs},
-			"Text":             text(long(200)),
-			"Text of nothing":  text(""),
+			"Text":             sample.Text(long(200)),
+			"Text of nothing":  sample.Text(""),
 			"Frag":             {Kind: api.Frag},
 		} {
 			n.Parent, n.Host, n.Under, n.Doc = api.None, api.None, api.None, doc
@@ -145,8 +90,8 @@ func TestMake(t *testing.T) {
 // P3.1: what else a node says doesn't count: where it stands, its children, its shadow, and whose a Doc is.
 func TestMakeAlone(t *testing.T) {
 	f := grove(t)
-	for _, v := range []int{0, 3, 11, 12, 17, 20, 21, 22, -1, -2, greatest, least} {
-		for _, n := range []api.Node{elem("p"), text("t"), {Kind: api.Frag}, {Kind: api.Doc, Doc: v}} {
+	for _, v := range []int{0, 3, 11, 12, 17, 20, 21, 22, -1, -2, sample.Greatest, sample.Least} {
+		for _, n := range []api.Node{sample.Elem("p"), sample.Text("t"), {Kind: api.Frag}, {Kind: api.Doc, Doc: v}} {
 			want := n
 			want.Parent, want.Host, want.Under = api.None, api.None, api.None
 			if n.Kind == api.Doc {
@@ -166,10 +111,10 @@ func wrongNodes() map[string]api.Node {
 		"Shade of a Shade":      {Kind: api.Shade, Host: 3},
 		"Kind 5":                {Kind: 5},
 		"Kind -1":               {Kind: -1},
-		"greatest Kind":         {Kind: greatest},
+		"greatest Kind":         {Kind: sample.Greatest},
 		"Elem without a name":   {Kind: api.Elem},
-		"Elem with a capital":   elem("P"),
-		"Elem with a wrong one": elem("9"),
+		"Elem with a capital":   sample.Elem("P"),
+		"Elem with a wrong one": sample.Elem("9"),
 		"Elem with a known Is":  {Kind: api.Elem, Name: "p", Is: "p"},
 		"Elem with a wrong Is":  {Kind: api.Elem, Name: "p", Is: "X-a"},
 		"Elem with data":        {Kind: api.Elem, Name: "p", Data: "d"},
@@ -179,7 +124,7 @@ func wrongNodes() map[string]api.Node {
 		"Elem of None":          {Kind: api.Elem, Name: "p", Doc: api.None},
 		"Elem of itself":        {Kind: api.Elem, Name: "p", Doc: 21},
 		"Elem of nobody":        {Kind: api.Elem, Name: "p", Doc: 22},
-		"Text of 201 bytes":     text(long(201)),
+		"Text of 201 bytes":     sample.Text(long(201)),
 		"Text with a name":      {Kind: api.Text, Name: "p"},
 		"Text with an Is":       {Kind: api.Text, Is: "x-a"},
 		"Text with attributes":  {Kind: api.Text, Attrs: []api.Attr{{Name: "a"}}},
@@ -200,9 +145,9 @@ func wrongNodes() map[string]api.Node {
 func TestMakeWrong(t *testing.T) {
 	for what, n := range wrongNodes() {
 		checkMake(t, what, grove(t), n, grove(t), api.None, api.ErrArg)
-		checkMake(t, what+", full", full(t, grove(t)), n, full(t, grove(t)), api.None, api.ErrArg)
+		checkMake(t, what+", full", sample.Full(grove(t)), n, sample.Full(grove(t)), api.None, api.ErrArg)
 	}
-	n := text(long(201))
+	n := sample.Text(long(201))
 	checkMake(t, "400 nodes", wide(t, 400), n, wide(t, 400), api.None, api.ErrArg)
 }
 
@@ -214,22 +159,22 @@ func TestMakeInWrong(t *testing.T) {
 		if rightByWords(f) {
 			continue
 		}
-		checkMake(t, "Elem", f, elem("p"), f, api.None, api.ErrArg)
+		checkMake(t, "Elem", f, sample.Elem("p"), f, api.None, api.ErrArg)
 		f.Most = 21
 		checkMake(t, "Doc, full", f, api.Node{}, f, api.None, api.ErrArg)
 		checkMake(t, "Kind 9, full", f, api.Node{Kind: 9}, f, api.None, api.ErrArg)
 	}
-	for _, most := range []int{least, -1, 0, 1, 20, 401, greatest} {
+	for _, most := range []int{sample.Least, -1, 0, 1, 20, 401, sample.Greatest} {
 		f := grove(t)
 		f.Most = most
-		checkMake(t, "Most "+strconv.Itoa(most), f, elem("p"), f, api.None, api.ErrArg)
+		checkMake(t, "Most "+strconv.Itoa(most), f, sample.Elem("p"), f, api.None, api.ErrArg)
 		checkMake(t, "no node", api.Forest{Most: most}, api.Node{}, api.Forest{Most: most}, api.None, api.ErrArg)
 	}
 }
 
 // P3.1: there is room for Most nodes, and not for one more.
 func TestMakeFull(t *testing.T) {
-	for _, n := range []api.Node{elem("p"), text("t"), {Kind: api.Frag}, {Kind: api.Doc}} {
+	for _, n := range []api.Node{sample.Elem("p"), sample.Text("t"), {Kind: api.Frag}, {Kind: api.Doc}} {
 		for _, most := range []int{1, 2, 21, 399, 400} {
 			f := newForest(t, most)
 			for len(f.Nodes) < most {
@@ -238,15 +183,15 @@ func TestMakeFull(t *testing.T) {
 			checkMake(t, "full", f, n, f, api.None, api.ErrFull)
 		}
 		f := grove(t)
-		checkMake(t, "full grove", full(t, f), n, full(t, f), api.None, api.ErrFull)
+		checkMake(t, "full grove", sample.Full(f), n, sample.Full(f), api.None, api.ErrFull)
 	}
 }
 
 // P3.1: whom Make answers may be changed without the other lists of the answer.
 func TestMakeShares(t *testing.T) {
-	for _, n := range []api.Node{elem("p"), {Kind: 9}} {
+	for _, n := range []api.Node{sample.Elem("p"), {Kind: 9}} {
 		f, _, _ := forest.Make(grove(t), n)
-		before := copyOf(f)
+		before := sample.Copy(f)
 		for i := range f.Nodes {
 			f.Nodes[i].Kids = append(f.Nodes[i].Kids, 1, 2, 3)
 			f.Nodes[i].Attrs = append(f.Nodes[i].Attrs, api.Attr{Name: "mine"})
@@ -254,7 +199,7 @@ func TestMakeShares(t *testing.T) {
 		for i, n := range before.Nodes {
 			f.Nodes[i].Kids, f.Nodes[i].Attrs = f.Nodes[i].Kids[:len(n.Kids)], f.Nodes[i].Attrs[:len(n.Attrs)]
 		}
-		if !same(f, before) {
+		if !sample.Same(f, before) {
 			t.Errorf("lists of one answer share memory: %v", f)
 		}
 	}

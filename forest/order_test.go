@@ -6,33 +6,15 @@ import (
 
 	"instar/api"
 	"instar/forest"
+	"instar/sample"
 )
 
 // untouched checks that a call leaves the forest that it is given as it is.
 func untouched(t *testing.T, what string, f api.Forest, call func(f api.Forest)) {
 	t.Helper()
-	given, whole := roomy(f)
-	call(given)
-	if !stays(given, whole) {
+	if !sample.Untouched(f, call) {
 		t.Errorf("%s: changed what was handed in", what)
 	}
-}
-
-// wrongNumbers are no nodes of f.
-func wrongNumbers(f api.Forest) []int {
-	count := len(f.Nodes)
-	return []int{-1, -2, -3, -4, -400, least, count, count + 1, 400, 401, 1 << 20, 1 << 32, greatest}
-}
-
-// some are numbers of nodes of f: all, or, of a great forest, the ends and a few between.
-func some(f api.Forest) []int {
-	var l []int
-	for n := range f.Nodes {
-		if len(f.Nodes) < 30 || n < 4 || n > len(f.Nodes)-3 || n%97 < 2 {
-			l = append(l, n)
-		}
-	}
-	return l
 }
 
 // rootByWords goes up by one step.
@@ -47,7 +29,7 @@ func rootByWords(f api.Forest, n int) int {
 func TestRootAndPlace(t *testing.T) {
 	for what, f := range rightForests(t) {
 		untouched(t, what, f, func(f api.Forest) {
-			for _, n := range some(f) {
+			for _, n := range sample.Some(f) {
 				if at := forest.Root(f, n); at != rootByWords(f, n) {
 					t.Errorf("%s: Root(%d) = %d", what, n, at)
 				}
@@ -75,8 +57,8 @@ func TestRootAndPlace(t *testing.T) {
 func TestHolds(t *testing.T) {
 	for what, f := range rightForests(t) {
 		untouched(t, what, f, func(f api.Forest) {
-			for _, a := range some(f) {
-				for _, b := range some(f) {
+			for _, a := range sample.Some(f) {
+				for _, b := range sample.Some(f) {
 					want := false
 					for at := b; at != api.None; at = f.Nodes[at].Parent {
 						want = want || at == a
@@ -106,7 +88,7 @@ func TestHolds(t *testing.T) {
 func TestOrder(t *testing.T) {
 	for what, f := range rightForests(t) {
 		untouched(t, what, f, func(f api.Forest) {
-			for _, n := range some(f) {
+			for _, n := range sample.Some(f) {
 				l := forest.Order(f, n)
 				if !slices.Equal(l, orderByWords(f, n)) {
 					t.Errorf("%s: Order(%d) = %v", what, n, l)
@@ -130,7 +112,7 @@ func TestOrder(t *testing.T) {
 
 // The chapter's example.
 func TestExample(t *testing.T) {
-	f := plant(t, newForest(t, 400), elem("p"), text("a"), text("b"))
+	f := plant(t, newForest(t, 400), sample.Elem("p"), sample.Text("a"), sample.Text("b"))
 	hang(f, 0, 1)
 	hang(f, 1, 2, 3)
 	if l := forest.Order(f, 0); !slices.Equal(l, []int{0, 1, 2, 3}) {
@@ -142,9 +124,9 @@ func TestExample(t *testing.T) {
 func TestAhead(t *testing.T) {
 	for what, f := range rightForests(t) {
 		untouched(t, what, f, func(f api.Forest) {
-			for _, a := range some(f) {
+			for _, a := range sample.Some(f) {
 				order := orderByWords(f, rootByWords(f, a))
-				for _, b := range some(f) {
+				for _, b := range sample.Some(f) {
 					at := slices.Index(order, b)
 					want := at >= 0 && slices.Index(order, a) < at
 					if forest.Ahead(f, a, b) != want {
@@ -172,7 +154,7 @@ func TestAhead(t *testing.T) {
 // P3.2, P3.3: of a node that isn't there nothing is told, whichever of two it is.
 func TestNoSuchNode(t *testing.T) {
 	for what, f := range rightForests(t) {
-		for _, wrong := range wrongNumbers(f) {
+		for _, wrong := range sample.WrongNumbers(f) {
 			checkNothing(t, what, f, wrong, wrong)
 			checkNothing(t, what, f, wrong, 0)
 			checkNothing(t, what, f, 0, wrong)
@@ -205,7 +187,7 @@ func TestNothingOfWrong(t *testing.T) {
 // P3.4: tree order has just the nodes that n holds, each once.
 func TestOrderHolds(t *testing.T) {
 	for what, f := range rightForests(t) {
-		for _, n := range some(f) {
+		for _, n := range sample.Some(f) {
 			times := make([]int, len(f.Nodes))
 			for _, at := range forest.Order(f, n) {
 				times[at]++

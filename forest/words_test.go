@@ -9,6 +9,7 @@ import (
 	"instar/attr"
 	"instar/forest"
 	"instar/name"
+	"instar/sample"
 )
 
 // The chapter's words once more, each by itself and without haste, to hold the program against.
@@ -128,33 +129,9 @@ func orderByWords(f api.Forest, n int) []int {
 	return order
 }
 
-// copyOf shares nothing with f, and has no spare room.
-func copyOf(f api.Forest) api.Forest {
-	g := api.Forest{Most: f.Most, Nodes: slices.Clip(slices.Clone(f.Nodes))}
-	for i, n := range f.Nodes {
-		g.Nodes[i].Attrs = slices.Clip(slices.Clone(n.Attrs))
-		g.Nodes[i].Kids = slices.Clip(slices.Clone(n.Kids))
-	}
-	return g
-}
-
-func sameNode(a, b api.Node) bool {
-	return slices.Equal(a.Attrs, b.Attrs) && slices.Equal(a.Kids, b.Kids) &&
-		a.Kind == b.Kind && a.Name == b.Name && a.Is == b.Is && a.Data == b.Data &&
-		a.Parent == b.Parent && a.Host == b.Host && a.Under == b.Under && a.Doc == b.Doc
-}
-
-func same(f, g api.Forest) bool {
-	return f.Most == g.Most && slices.EqualFunc(f.Nodes, g.Nodes, sameNode)
-}
-
 // Right forests for the tests.
 
 func long(bytes int) string { return strings.Repeat("d", bytes) }
-
-func elem(n string) api.Node { return api.Node{Kind: api.Elem, Name: n} }
-
-func text(data string) api.Node { return api.Node{Kind: api.Text, Data: data} }
 
 // newForest is forest.New, where it has to succeed.
 func newForest(t *testing.T, most int) api.Forest {
@@ -187,14 +164,6 @@ func hang(f api.Forest, p int, kids ...int) {
 	}
 }
 
-// cast lays a Shade more in n's shadow, by hand.
-func cast(f *api.Forest, n int) int {
-	at := len(f.Nodes)
-	f.Nodes[n].Under = at
-	f.Nodes = append(f.Nodes, api.Node{Kind: api.Shade, Parent: api.None, Host: n, Under: api.None, Doc: f.Nodes[n].Doc})
-	return at
-}
-
 // grove has all kinds of nodes, in trees whose numbers go back and forth:
 //
 //	0 Doc: 3 p: 2 b: (4 Text, 1 x-a), 6 Text, 5 i
@@ -203,15 +172,15 @@ func cast(f *api.Forest, n int) int {
 func grove(t *testing.T) api.Forest {
 	f := plant(t, newForest(t, 30),
 		api.Node{Kind: api.Elem, Name: "x-a", Is: "x-b", Attrs: []api.Attr{{Name: "a", Value: "1"}, {Name: "b-c"}}},
-		elem("b"), elem("p"), text("t"), elem("i"), text(""), elem("u"), elem("s"), text("n"), text("\"\\\x00\xff"),
+		sample.Elem("b"), sample.Elem("p"), sample.Text("t"), sample.Elem("i"), sample.Text(""), sample.Elem("u"), sample.Elem("s"), sample.Text("n"), sample.Text("\"\\\x00\xff"),
 		api.Node{Kind: api.Frag})
 	hang(f, 0, 3)
 	hang(f, 3, 2, 6, 5)
 	hang(f, 2, 4, 1)
-	hang(f, cast(&f, 3), 7, 10)
-	hang(f, cast(&f, 7), 9, 8)
-	f = plant(t, f, elem("li"), text("x"), elem("li"), api.Node{Kind: api.Doc},
-		api.Node{Kind: api.Elem, Name: "div", Doc: 17}, api.Node{Kind: api.Text, Data: "y", Doc: 17}, text("z"))
+	hang(f, sample.Cast(&f, 3), 7, 10)
+	hang(f, sample.Cast(&f, 7), 9, 8)
+	f = plant(t, f, sample.Elem("li"), sample.Text("x"), sample.Elem("li"), api.Node{Kind: api.Doc},
+		api.Node{Kind: api.Elem, Name: "div", Doc: 17}, api.Node{Kind: api.Text, Data: "y", Doc: 17}, sample.Text("z"))
 	hang(f, 11, 14, 15, 16)
 	hang(f, 18, 19)
 	return f
@@ -222,9 +191,9 @@ func chain(t *testing.T, count int, shadows bool) api.Forest {
 	f := newForest(t, 400)
 	for p := 0; len(f.Nodes) < count; p = len(f.Nodes) - 1 {
 		if shadows && f.Nodes[p].Kind == api.Elem {
-			p = cast(&f, p)
+			p = sample.Cast(&f, p)
 		}
-		f = plant(t, f, elem("e"))
+		f = plant(t, f, sample.Elem("e"))
 		hang(f, p, len(f.Nodes)-1)
 	}
 	return f
@@ -234,7 +203,7 @@ func chain(t *testing.T, count int, shadows bool) api.Forest {
 func upside(t *testing.T, count int) api.Forest {
 	f := newForest(t, 400)
 	for len(f.Nodes) < count {
-		f = plant(t, f, elem("e"))
+		f = plant(t, f, sample.Elem("e"))
 	}
 	for n := 2; n < count; n++ {
 		hang(f, n, n-1)
@@ -245,22 +214,15 @@ func upside(t *testing.T, count int) api.Forest {
 
 // wide is a Doc with an Elem with Texts, the last one first, so many nodes in all.
 func wide(t *testing.T, count int) api.Forest {
-	f := plant(t, newForest(t, 400), elem("e"))
+	f := plant(t, newForest(t, 400), sample.Elem("e"))
 	hang(f, 0, 1)
 	var kids []int
 	for len(f.Nodes) < count {
 		kids = append(kids, len(f.Nodes))
-		f = plant(t, f, text("t"))
+		f = plant(t, f, sample.Text("t"))
 	}
 	slices.Reverse(kids)
 	hang(f, 1, kids...)
-	return f
-}
-
-// full is f with no room left.
-func full(t *testing.T, f api.Forest) api.Forest {
-	t.Helper()
-	f.Most = len(f.Nodes)
 	return f
 }
 
@@ -271,7 +233,7 @@ func rightForests(t *testing.T) map[string]api.Forest {
 		empties.Nodes[i].Kids = append([]int{}, n.Kids...)
 		empties.Nodes[i].Attrs = append([]api.Attr{}, n.Attrs...)
 	}
-	rich := plant(t, newForest(t, 9), elem(strings.Repeat("n", 40)), text(long(200)), elem("_"), elem("font-face"), elem("a.9-_"))
+	rich := plant(t, newForest(t, 9), sample.Elem(strings.Repeat("n", 40)), sample.Text(long(200)), sample.Elem("_"), sample.Elem("font-face"), sample.Elem("a.9-_"))
 	for i := range 40 {
 		rich.Nodes[1].Attrs = append(rich.Nodes[1].Attrs, api.Attr{Name: strings.Repeat("a", i+1), Value: long(200)})
 	}
@@ -281,7 +243,7 @@ func rightForests(t *testing.T) map[string]api.Forest {
 		"one Doc":            newForest(t, 1),
 		"a Doc, much room":   newForest(t, 400),
 		"grove":              grove(t),
-		"grove, full":        full(t, grove(t)),
+		"grove, full":        sample.Full(grove(t)),
 		"nil and empty":      empties,
 		"greatest fields":    rich,
 		"a Doc with a Doc":   plant(t, newForest(t, 2), api.Node{Kind: api.Doc}),
@@ -292,13 +254,13 @@ func rightForests(t *testing.T) map[string]api.Forest {
 		"deepest shadows":    chain(t, 400, true),
 		"widest":             wide(t, 400),
 		"a Shade, no kids":   loose(t),
-		"Elems side by side": plant(t, newForest(t, 3), elem("a"), elem("a")),
+		"Elems side by side": plant(t, newForest(t, 3), sample.Elem("a"), sample.Elem("a")),
 	}
 }
 
 // loose is an Elem with a Shade, without children and parents.
 func loose(t *testing.T) api.Forest {
-	f := plant(t, newForest(t, 9), elem("p"))
-	cast(&f, 1)
+	f := plant(t, newForest(t, 9), sample.Elem("p"))
+	sample.Cast(&f, 1)
 	return f
 }

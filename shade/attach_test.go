@@ -1,67 +1,20 @@
 package shade_test
 
 import (
-	"slices"
 	"strings"
 	"testing"
 
 	"instar/api"
 	"instar/forest"
 	"instar/name"
+	"instar/sample"
 	"instar/shade"
 )
 
-// roomy answers f with room to spare behind each of its lists, and what stands in those with the room.
-func roomy(f api.Forest) (api.Forest, api.Forest) {
-	spare := api.Node{Kind: 77, Name: "spare", Doc: 77, Parent: 77, Host: 77, Under: 77}
-	whole := copyOf(f)
-	for i, n := range whole.Nodes {
-		whole.Nodes[i].Kids = append(slices.Clone(n.Kids), 77, 78, 79)
-		whole.Nodes[i].Attrs = append(slices.Clone(n.Attrs), api.Attr{Name: "spare"}, api.Attr{Value: "spare"})
-	}
-	whole.Nodes = append(whole.Nodes, spare, spare, spare)
-	g := api.Forest{Nodes: slices.Clone(whole.Nodes)[:len(f.Nodes)], Most: f.Most}
-	for i, n := range f.Nodes {
-		g.Nodes[i].Kids = slices.Clone(whole.Nodes[i].Kids)[:len(n.Kids)]
-		g.Nodes[i].Attrs = slices.Clone(whole.Nodes[i].Attrs)[:len(n.Attrs)]
-	}
-	return g, whole
-}
-
-// stays tells whether f has in it, and behind it, what whole says.
-func stays(f, whole api.Forest) bool {
-	now := api.Forest{Nodes: slices.Clone(f.Nodes[:cap(f.Nodes)]), Most: f.Most}
-	if len(now.Nodes) < len(whole.Nodes) {
-		return false
-	}
-	for i, n := range whole.Nodes {
-		m := now.Nodes[i]
-		m.Kids, m.Attrs = m.Kids[:min(len(n.Kids), cap(m.Kids))], m.Attrs[:min(len(n.Attrs), cap(m.Attrs))]
-		if !sameNode(m, n) {
-			return false
-		}
-	}
-	return f.Most == whole.Most
-}
-
-// scribble changes all that hangs on f, spare room and all.
-func scribble(f api.Forest) {
-	all := f.Nodes[:cap(f.Nodes)]
-	for i, n := range all {
-		for j := range n.Kids[:cap(n.Kids)] {
-			n.Kids[:cap(n.Kids)][j] = 999
-		}
-		for j := range n.Attrs[:cap(n.Attrs)] {
-			n.Attrs[:cap(n.Attrs)][j] = api.Attr{Name: "mine", Value: "mine"}
-		}
-		all[i] = api.Node{Kind: 999, Name: "mine"}
-	}
-}
-
 // shadowed is f with a Shade in n's shadow, as the chapter says.
 func shadowed(f api.Forest, n int) api.Forest {
-	g := copyOf(f)
-	cast(&g, n)
+	g := sample.Copy(f)
+	sample.Cast(&g, n)
 	return g
 }
 
@@ -72,16 +25,16 @@ func checkAttach(t *testing.T, what string, f api.Forest, n int, fault api.Errno
 	if fault == api.OK {
 		want, number = shadowed(f, n), len(f.Nodes)
 	}
-	given, whole := roomy(f)
+	given, whole := sample.Roomy(f)
 	g, at, err := shade.Attach(given, n)
-	if !same(g, want) || at != number || err != fault {
+	if !sample.Same(g, want) || at != number || err != fault {
 		t.Errorf("%s: Attach(%d) = %v, %d, %d, not %v, %d, %d", what, n, g, at, err, want, number, fault)
 	}
 	if err == api.OK && !forest.Right(g) {
 		t.Errorf("%s: Attach(%d) made what isn't right: %v", what, n, g)
 	}
-	scribble(g)
-	if !stays(given, whole) {
+	sample.Scribble(g)
+	if !sample.Stays(given, whole) {
 		t.Errorf("%s: Attach(%d) changed what was handed in, or shares memory with it", what, n)
 	}
 }
@@ -89,7 +42,7 @@ func checkAttach(t *testing.T, what string, f api.Forest, n int, fault api.Errno
 // P4.1: of each node of the grove, with room and without.
 func TestAttach(t *testing.T) {
 	faults := map[int]api.Errno{1: api.OK, 8: api.OK, 17: api.ErrAlready, 19: api.OK, 21: api.OK, 2: api.ErrAlready, 3: api.ErrAlready, 23: api.ErrAlready}
-	f := grove(t)
+	f := sample.Grove()
 	for n := range f.Nodes {
 		fault, known := faults[n]
 		if !known {
@@ -99,7 +52,7 @@ func TestAttach(t *testing.T) {
 		if fault == api.OK {
 			fault = api.ErrFull
 		}
-		checkAttach(t, "full grove", full(grove(t)), n, fault)
+		checkAttach(t, "full grove", sample.Full(sample.Grove()), n, fault)
 	}
 }
 
@@ -118,8 +71,8 @@ func TestAttachNames(t *testing.T) {
 		if !may {
 			fault = api.ErrTree
 		}
-		checkAttach(t, n, newForest(t, 9, elem(n)), 1, fault)
-		checkAttach(t, n+", which is an x-a", newForest(t, 9, api.Node{Kind: api.Elem, Name: n, Is: "x-a"}), 1, fault)
+		checkAttach(t, n, sample.Forest(9, sample.Elem(n)), 1, fault)
+		checkAttach(t, n+", which is an x-a", sample.Forest(9, api.Node{Kind: api.Elem, Name: n, Is: "x-a"}), 1, fault)
 		if !name.Right(n) {
 			t.Errorf("%s is no name", n)
 		}
@@ -128,11 +81,11 @@ func TestAttachNames(t *testing.T) {
 
 // P4.1: the Shade is of the document of its element, which another one needn't be.
 func TestAttachDoc(t *testing.T) {
-	f := newForest(t, 9, api.Node{Kind: api.Doc}, api.Node{Kind: api.Elem, Name: "p", Doc: 1}, elem("p"))
+	f := sample.Forest(9, api.Node{Kind: api.Doc}, api.Node{Kind: api.Elem, Name: "p", Doc: 1}, sample.Elem("p"))
 	for n, doc := range map[int]int{2: 1, 3: 0} {
 		g, at, err := shade.Attach(f, n)
 		want := api.Node{Kind: api.Shade, Parent: api.None, Host: n, Under: api.None, Doc: doc}
-		if err != api.OK || at != 4 || !sameNode(g.Nodes[4], want) || g.Nodes[n].Under != 4 {
+		if err != api.OK || at != 4 || !sample.SameNode(g.Nodes[4], want) || g.Nodes[n].Under != 4 {
 			t.Errorf("Attach(%d) = %v, %d, %d", n, g, at, err)
 		}
 	}
@@ -141,11 +94,11 @@ func TestAttachDoc(t *testing.T) {
 // P4.1: there is room for Most nodes, and not for one more.
 func TestAttachFull(t *testing.T) {
 	for _, most := range []int{2, 3, 399, 400} {
-		f := newForest(t, most)
+		f := sample.Forest(most)
 		for len(f.Nodes) < most-1 {
-			f = plant(t, f, text("t"))
+			f = sample.Plant(f, sample.Text("t"))
 		}
-		f = plant(t, f, elem("p"))
+		f = sample.Plant(f, sample.Elem("p"))
 		checkAttach(t, "full", f, most-1, api.ErrFull)
 		if most < 400 {
 			f.Most++
@@ -156,20 +109,20 @@ func TestAttachFull(t *testing.T) {
 
 // P4.1: what may not be is told in the chapter's order: the argument, the tree, what is there already, the room.
 func TestAttachErrors(t *testing.T) {
-	f := newForest(t, 9, elem("u"), elem("u"), elem("p"))
-	cast(&f, 1)
-	cast(&f, 3)
+	f := sample.Forest(9, sample.Elem("u"), sample.Elem("u"), sample.Elem("p"))
+	sample.Cast(&f, 1)
+	sample.Cast(&f, 3)
 	for n, fault := range map[int]api.Errno{0: api.ErrTree, 1: api.ErrTree, 2: api.ErrTree, 3: api.ErrAlready, 4: api.ErrTree} {
 		checkAttach(t, "room", f, n, fault)
-		checkAttach(t, "full", full(f), n, fault)
+		checkAttach(t, "full", sample.Full(f), n, fault)
 	}
-	for what, f := range rightForests(t) {
-		for _, n := range wrongNumbers(f) {
+	for what, f := range sample.Right() {
+		for _, n := range sample.WrongNumbers(f) {
 			checkAttach(t, what, f, n, api.ErrArg)
-			checkAttach(t, what+", full", full(f), n, api.ErrArg)
+			checkAttach(t, what+", full", sample.Full(f), n, api.ErrArg)
 		}
 	}
-	for what, f := range wrongForests(t) {
+	for what, f := range sample.Wrong() {
 		for n := -1; n <= len(f.Nodes); n++ {
 			checkAttach(t, what, f, n, api.ErrArg)
 		}
@@ -179,8 +132,8 @@ func TestAttachErrors(t *testing.T) {
 // P4.1: whom Attach answers may be changed without the other lists of the answer.
 func TestAttachShares(t *testing.T) {
 	for _, n := range []int{1, 0} {
-		f, _, _ := shade.Attach(grove(t), n)
-		before := copyOf(f)
+		f, _, _ := shade.Attach(sample.Grove(), n)
+		before := sample.Copy(f)
 		for i := range f.Nodes {
 			f.Nodes[i].Kids = append(f.Nodes[i].Kids, 1, 2, 3)
 			f.Nodes[i].Attrs = append(f.Nodes[i].Attrs, api.Attr{Name: "mine"})
@@ -188,7 +141,7 @@ func TestAttachShares(t *testing.T) {
 		for i, n := range before.Nodes {
 			f.Nodes[i].Kids, f.Nodes[i].Attrs = f.Nodes[i].Kids[:len(n.Kids)], f.Nodes[i].Attrs[:len(n.Attrs)]
 		}
-		if !same(f, before) {
+		if !sample.Same(f, before) {
 			t.Errorf("lists of one answer share memory: %v", f)
 		}
 	}

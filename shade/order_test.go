@@ -1,46 +1,26 @@
 package shade_test
 
 import (
-	"math/rand"
 	"slices"
 	"strconv"
 	"testing"
 
 	"instar/api"
-	"instar/forest"
+	"instar/sample"
 	"instar/shade"
 )
 
 // untouched checks that a call leaves the forest that it is given as it is.
 func untouched(t *testing.T, what string, f api.Forest, call func(f api.Forest)) {
 	t.Helper()
-	given, whole := roomy(f)
-	call(given)
-	if !stays(given, whole) {
+	if !sample.Untouched(f, call) {
 		t.Errorf("%s: changed what was handed in", what)
 	}
 }
 
-// wrongNumbers are no nodes of f.
-func wrongNumbers(f api.Forest) []int {
-	count := len(f.Nodes)
-	return []int{-1, -2, -3, -4, -400, least, count, count + 1, 400, 401, 1 << 20, 1 << 32, greatest}
-}
-
-// some are numbers of nodes of f: all, or, of a great forest, the ends and a few between.
-func some(f api.Forest) []int {
-	var l []int
-	for n := range f.Nodes {
-		if len(f.Nodes) < 30 || n < 4 || n > len(f.Nodes)-3 || n%97 < 2 {
-			l = append(l, n)
-		}
-	}
-	return l
-}
-
 // P4.2: Top and Connected of each node of the grove, told one by one.
 func TestTop(t *testing.T) {
-	f := grove(t)
+	f := sample.Grove()
 	tops := map[int][]int{
 		0: {0, 3, 2, 4, 1, 6, 5, 12, 7, 10, 13, 9, 8, 14}, 11: {11, 15, 16, 17, 18, 19}, 20: {20}, 21: {21, 22}, 23: {23, 24, 25}, 26: {26},
 	}
@@ -63,7 +43,7 @@ func TestTop(t *testing.T) {
 
 // P4.2: All and Elems of nodes of the grove, told one by one.
 func TestAll(t *testing.T) {
-	f := grove(t)
+	f := sample.Grove()
 	for n, want := range map[int][]int{
 		0:  {0, 3, 12, 7, 13, 9, 8, 10, 2, 14, 4, 1, 6, 5},
 		3:  {3, 12, 7, 13, 9, 8, 10, 2, 14, 4, 1, 6, 5},
@@ -85,7 +65,7 @@ func TestAll(t *testing.T) {
 
 // P4.2: a node is over itself, over what it holds, and over what hangs in shadows below; over nobody else.
 func TestOver(t *testing.T) {
-	f := grove(t)
+	f := sample.Grove()
 	for _, c := range []struct {
 		a, b int
 		over bool
@@ -101,13 +81,13 @@ func TestOver(t *testing.T) {
 
 // The chapter's example.
 func TestExample(t *testing.T) {
-	f := newForest(t, 9, elem("div"), elem("b"), elem("i"))
-	hang(f, 1, 2)
+	f := sample.Forest(9, sample.Elem("div"), sample.Elem("b"), sample.Elem("i"))
+	sample.Hang(f, 1, 2)
 	f, s, err := shade.Attach(f, 1)
 	if err != api.OK {
 		t.Fatal(err)
 	}
-	hang(f, s, 3)
+	sample.Hang(f, s, 3)
 	if l := shade.All(f, 1); !slices.Equal(l, []int{1, s, 3, 2}) {
 		t.Error(l)
 	}
@@ -116,7 +96,7 @@ func TestExample(t *testing.T) {
 // checkWords holds all that is asked of f, of some of its nodes, against the chapter's words.
 func checkWords(t *testing.T, what string, f api.Forest) {
 	t.Helper()
-	for _, a := range some(f) {
+	for _, a := range sample.Some(f) {
 		top := topByWords(f, a)
 		if at := shade.Top(f, a); at != top {
 			t.Errorf("%s: Top(%d) = %d, not %d", what, a, at, top)
@@ -128,7 +108,7 @@ func checkWords(t *testing.T, what string, f api.Forest) {
 		if !slices.Equal(all, fullByWords(f, a)) || !slices.Equal(elems, elemsByWords(f, a)) {
 			t.Errorf("%s: of %d All is %v, Elems %v", what, a, all, elems)
 		}
-		for _, b := range some(f) {
+		for _, b := range sample.Some(f) {
 			if shade.Over(f, a, b) != overByWords(f, a, b) {
 				t.Errorf("%s: Over(%d, %d) is wrong", what, a, b)
 			}
@@ -138,59 +118,16 @@ func checkWords(t *testing.T, what string, f api.Forest) {
 
 // P4.2: all right forests, by the chapter's words; they stay as they are.
 func TestWords(t *testing.T) {
-	for what, f := range rightForests(t) {
+	for what, f := range sample.Right() {
 		untouched(t, what, f, func(f api.Forest) { checkWords(t, what, f) })
-	}
-}
-
-// tangle is a forest that chance has put together, the same for each seed.
-func tangle(t *testing.T, seed int64) api.Forest {
-	t.Helper()
-	chance := rand.New(rand.NewSource(seed))
-	names := []string{"p", "x-a", "b", "div"}
-	f := newForest(t, 400)
-	for len(f.Nodes) < 20 {
-		switch chance.Intn(8) {
-		case 0:
-			f = plant(t, f, api.Node{Kind: api.Frag})
-		case 1, 2:
-			f = plant(t, f, text("t"))
-		case 3:
-			if n := chance.Intn(len(f.Nodes)); f.Nodes[n].Kind == api.Elem && f.Nodes[n].Under == api.None {
-				cast(&f, n)
-			}
-		default:
-			f = plant(t, f, elem(names[chance.Intn(4)]))
-		}
-	}
-	for range 40 {
-		tie(f, chance.Intn(20), chance.Intn(20), chance.Intn(2) == 0)
-	}
-	if !forest.Right(f) {
-		t.Fatalf("the tangle %d isn't right: %v", seed, f)
-	}
-	return f
-}
-
-// tie puts kid under p, as its first child or its last one, where both may be so.
-func tie(f api.Forest, p, kid int, first bool) {
-	parent, child := f.Nodes[p].Kind, f.Nodes[kid].Kind
-	lonely := f.Nodes[kid].Parent == api.None && (child == api.Elem || child == api.Text)
-	if !lonely || parent == api.Text || parent == api.Doc && (child == api.Text || len(f.Nodes[p].Kids) > 0) || overByWords(f, kid, p) {
-		return
-	}
-	hang(f, p, kid)
-	if kids := f.Nodes[p].Kids; first {
-		copy(kids[1:], kids)
-		kids[0] = kid
 	}
 }
 
 // P4.2, P4.3: forests that chance has put together.
 func TestTangles(t *testing.T) {
-	for seed := range int64(200) {
-		f := tangle(t, seed)
-		what := "tangle " + strconv.FormatInt(seed, 10)
+	for seed := range 200 {
+		f := sample.Tangle(seed)
+		what := "tangle " + strconv.Itoa(seed)
 		untouched(t, what, f, func(f api.Forest) {
 			checkWords(t, what, f)
 			checkOnce(t, what, f)
@@ -201,7 +138,7 @@ func TestTangles(t *testing.T) {
 // checkOnce checks that full order from a node has just those that it is over, each once.
 func checkOnce(t *testing.T, what string, f api.Forest) {
 	t.Helper()
-	for _, a := range some(f) {
+	for _, a := range sample.Some(f) {
 		times := make([]int, len(f.Nodes))
 		for _, at := range shade.All(f, a) {
 			times[at]++
@@ -220,7 +157,7 @@ func checkOnce(t *testing.T, what string, f api.Forest) {
 
 // P4.3: full order has just the nodes that n is over, each once.
 func TestOnce(t *testing.T) {
-	for what, f := range rightForests(t) {
+	for what, f := range sample.Right() {
 		checkOnce(t, what, f)
 	}
 }
@@ -238,8 +175,8 @@ func checkNothing(t *testing.T, what string, f api.Forest, a, b int) {
 
 // P4.2: of a node that isn't there nothing is told, whichever of two it is.
 func TestNoSuchNode(t *testing.T) {
-	for what, f := range rightForests(t) {
-		for _, wrong := range wrongNumbers(f) {
+	for what, f := range sample.Right() {
+		for _, wrong := range sample.WrongNumbers(f) {
 			checkNothing(t, what, f, wrong, wrong)
 			checkNothing(t, what, f, wrong, 0)
 			checkNothing(t, what, f, wrong, len(f.Nodes)-1)
@@ -249,7 +186,7 @@ func TestNoSuchNode(t *testing.T) {
 
 // P4.2: of a forest that isn't right nothing is told, of no node, and it stays as it is.
 func TestNothingOfWrong(t *testing.T) {
-	for what, f := range wrongForests(t) {
+	for what, f := range sample.Wrong() {
 		untouched(t, what, f, func(f api.Forest) {
 			for n := -1; n <= len(f.Nodes); n++ {
 				checkNothing(t, what, f, n, n)
@@ -261,14 +198,14 @@ func TestNothingOfWrong(t *testing.T) {
 
 // P4.2: an answer is the caller's own: who changes it changes no other one.
 func TestOwn(t *testing.T) {
-	f := grove(t)
+	f := sample.Grove()
 	for _, ask := range []func(f api.Forest, n int) []int{shade.All, shade.Elems} {
 		want := ask(f, 0)
 		l := ask(f, 0)
 		for i := range l[:cap(l)] {
 			l[:cap(l)][i] = 999
 		}
-		if !slices.Equal(ask(f, 0), want) || !same(f, grove(t)) {
+		if !slices.Equal(ask(f, 0), want) || !sample.Same(f, sample.Grove()) {
 			t.Error("an answer shares memory")
 		}
 	}

@@ -1,0 +1,144 @@
+package sample
+
+import (
+	"slices"
+
+	"instar/api"
+)
+
+// The greatest number, and the least one.
+const (
+	Greatest = int(^uint(0) >> 1)
+	Least    = -Greatest - 1
+)
+
+// Grove has all kinds of nodes, and shadows in shadows, in trees whose numbers go back and forth:
+//
+//	0 Doc: 3 p: 2 x-c: (4 Text, 1 x-a), 6 Text, 5 i
+//	3's shadow, 12 Shade: 7 u (in its shadow, 13 Shade: 9 Text, 8 span), 10 Text;   2's, 14 Shade, empty
+//	11 Frag: 15 li, 16 Text, 17 div (in its shadow, 18 Shade: 19 x-d)
+//	20 Doc, and of it 21 div, alone, with its Text 22, 23 p, alone (in its shadow, 24 Shade: 25 b);   26 Text, alone
+func Grove() api.Forest {
+	f := Forest(40,
+		api.Node{Kind: api.Elem, Name: "x-a", Is: "x-b", Attrs: []api.Attr{{Name: "a", Value: "1"}, {Name: "b-c"}}},
+		Elem("x-c"), Elem("p"), Text("t"), Elem("i"), Text(""), Elem("u"), Elem("span"), Text("n"), Text("\"\x00\xff"),
+		api.Node{Kind: api.Frag})
+	Hang(f, 0, 3)
+	Hang(f, 3, 2, 6, 5)
+	Hang(f, 2, 4, 1)
+	shade := Cast(&f, 3)
+	Hang(f, shade, 7, 10)
+	shade = Cast(&f, 7)
+	Hang(f, shade, 9, 8)
+	Cast(&f, 2)
+	f = Plant(f, Elem("li"), Text("x"), Elem("div"))
+	Hang(f, 11, 15, 16, 17)
+	shade = Cast(&f, 17)
+	f = Plant(f, Elem("x-d"), api.Node{Kind: api.Doc})
+	Hang(f, shade, 19)
+	f = Plant(f, Of(20, Elem("div")), Of(20, Text("y")), Of(20, Elem("p")))
+	Hang(f, 21, 22)
+	shade = Cast(&f, 23)
+	f = Plant(f, Of(20, Elem("b")), Text("z"))
+	Hang(f, shade, 25)
+	return f
+}
+
+// Chain is a Doc and Elems, so many nodes (or one more), each Elem in the one before, or, where shadows is
+// true, in its shadow.
+func Chain(count int, shadows bool) api.Forest {
+	f := Forest(api.MaxNodes)
+	for p := 0; len(f.Nodes) < count; p = len(f.Nodes) - 1 {
+		if shadows && f.Nodes[p].Kind == api.Elem {
+			p = Cast(&f, p)
+		}
+		f = Plant(f, Elem("x-e"))
+		Hang(f, p, len(f.Nodes)-1)
+	}
+	return f
+}
+
+// Wide is an Elem with shadowed Elems, the last one first, so many nodes in all.
+func Wide(count int) api.Forest {
+	f := Forest(api.MaxNodes, Elem("e"))
+	var kids []int
+	for len(f.Nodes)+1 < count {
+		kids = append(kids, len(f.Nodes))
+		f = Plant(f, Elem("x-e"))
+		Cast(&f, len(f.Nodes)-1)
+	}
+	slices.Reverse(kids)
+	Hang(f, 1, kids...)
+	return f
+}
+
+// Right answers forests that are right, the greatest ones among them.
+func Right() map[string]api.Forest {
+	loose := Forest(9, Elem("p"))
+	Cast(&loose, 1)
+	return map[string]api.Forest{
+		"one Doc":          Forest(1),
+		"grove":            Grove(),
+		"grove, full":      Full(Grove()),
+		"two Docs":         Forest(2, api.Node{Kind: api.Doc}),
+		"chain":            Chain(10, false),
+		"chain of shadows": Chain(9, true),
+		"deepest":          Chain(api.MaxNodes, false),
+		"deepest shadows":  Chain(api.MaxNodes, true),
+		"widest":           Wide(api.MaxNodes),
+		"a Shade, no kids": loose,
+	}
+}
+
+// Wrong answers what is no forest, and groves, each with one fault.
+func Wrong() map[string]api.Forest {
+	wrong := map[string]api.Forest{"nothing": {}, "no node": {Most: 9}}
+	for what, spoil := range map[string]func(f *api.Forest){
+		"Most 0":                  func(f *api.Forest) { f.Most = 0 },
+		"Most 401":                func(f *api.Forest) { f.Most = 401 },
+		"Most too small":          func(f *api.Forest) { f.Most = len(f.Nodes) - 1 },
+		"the node 0 no Doc":       func(f *api.Forest) { f.Nodes[0].Kind = api.Frag },
+		"Kind 5":                  func(f *api.Forest) { f.Nodes[26].Kind = 5 },
+		"a name with capitals":    func(f *api.Forest) { f.Nodes[1].Name = "X-a" },
+		"a Text with a name":      func(f *api.Forest) { f.Nodes[26].Name = "x-a" },
+		"a Doc that isn't there":  func(f *api.Forest) { f.Nodes[26].Doc = 99 },
+		"a Doc that is None":      func(f *api.Forest) { f.Nodes[26].Doc = api.None },
+		"a child twice":           func(f *api.Forest) { f.Nodes[2].Kids = []int{4, 1, 4} },
+		"a child that isn't":      func(f *api.Forest) { f.Nodes[2].Kids = []int{4, 1, 99} },
+		"a child that is None":    func(f *api.Forest) { f.Nodes[2].Kids = []int{4, 1, -1} },
+		"a child of another":      func(f *api.Forest) { f.Nodes[11].Kids = []int{15, 16, 17, 6} },
+		"a parent without it":     func(f *api.Forest) { f.Nodes[26].Parent = 3 },
+		"its own parent":          func(f *api.Forest) { Hang(*f, 21, 21) },
+		"its own grandparent":     func(f *api.Forest) { Cut(*f, 3); Hang(*f, 2, 3) },
+		"in its own shadow":       func(f *api.Forest) { Hang(*f, 24, 23) },
+		"a Shade without a Host":  func(f *api.Forest) { f.Nodes[12].Host = api.None },
+		"a Shade of another Host": func(f *api.Forest) { f.Nodes[12].Host = 5 },
+		"a shadow that isn't":     func(f *api.Forest) { f.Nodes[1].Under = 99 },
+		"another's shadow":        func(f *api.Forest) { f.Nodes[1].Under = 12 },
+		"a Text's shadow":         func(f *api.Forest) { f.Nodes[26].Under = 12 },
+		"an Elem's Host":          func(f *api.Forest) { f.Nodes[1].Host = 3 },
+		"great numbers":           func(f *api.Forest) { f.Nodes[1].Under = Greatest; f.Nodes[5].Under = Least },
+	} {
+		f := Grove()
+		spoil(&f)
+		wrong[what] = f
+	}
+	return wrong
+}
+
+// WrongNumbers answers numbers of no node of f.
+func WrongNumbers(f api.Forest) []int {
+	count := len(f.Nodes)
+	return []int{-1, -2, -3, -4, -400, Least, count, count + 1, 400, 401, 1 << 20, Greatest/2 + 1, Greatest}
+}
+
+// Some answers numbers of nodes of f: all, or, of a great forest, the ends and a few between.
+func Some(f api.Forest) []int {
+	var l []int
+	for n := range f.Nodes {
+		if len(f.Nodes) < 30 || n < 4 || n > len(f.Nodes)-3 || n%97 < 2 {
+			l = append(l, n)
+		}
+	}
+	return l
+}

@@ -1,0 +1,146 @@
+package sample_test
+
+import (
+	"strconv"
+	"testing"
+
+	"instar/api"
+	"instar/forest"
+	"instar/sample"
+)
+
+// What is told to be right is so, what is told to be wrong isn't, and both come anew with each call.
+func TestForests(t *testing.T) {
+	for what, f := range sample.Right() {
+		if !forest.Right(f) {
+			t.Errorf("%s isn't right", what)
+		}
+		sample.Scribble(f)
+	}
+	for what, f := range sample.Wrong() {
+		if forest.Right(f) {
+			t.Errorf("%s is right", what)
+		}
+		sample.Scribble(f)
+	}
+	for what, f := range sample.Right() {
+		if !forest.Right(f) {
+			t.Errorf("%s isn't right any more", what)
+		}
+	}
+}
+
+// Tangles are right, the same for each seed, and others for others; among them are nodes of each kind, in
+// and out of shadows and of a second document.
+func TestTangles(t *testing.T) {
+	kinds := make([]int, 5)
+	under, beside, others := 0, 0, 0
+	for seed := range 200 {
+		f := sample.Tangle(seed)
+		if !forest.Right(f) || !sample.Same(f, sample.Tangle(seed)) {
+			t.Errorf("tangle %d isn't right, or another one when asked for again", seed)
+		}
+		if !sample.Same(f, sample.Tangle(seed+1)) {
+			others++
+		}
+		for _, n := range f.Nodes {
+			kinds[n.Kind]++
+			if n.Parent != api.None {
+				under++
+			}
+			if n.Doc != 0 {
+				beside++
+			}
+		}
+	}
+	if min(kinds[0], kinds[1], kinds[2], kinds[3], kinds[4], under, beside) < 100 || others < 190 {
+		t.Errorf("not the forests that were meant: %v, %d, %d, %d", kinds, under, beside, others)
+	}
+}
+
+// Numbers are wrong where they are told to be so, and of nodes where they are told to be some.
+func TestNumbers(t *testing.T) {
+	for what, f := range sample.Right() {
+		for _, n := range sample.WrongNumbers(f) {
+			if 0 <= n && n < len(f.Nodes) {
+				t.Errorf("%s has the node %d", what, n)
+			}
+		}
+		for _, n := range sample.Some(f) {
+			if n < 0 || n >= len(f.Nodes) {
+				t.Errorf("%s has no node %d", what, n)
+			}
+		}
+	}
+}
+
+// changes are ways to change a grove, in what it has and in its spare room.
+func changes() []func(f api.Forest) {
+	return []func(f api.Forest){
+		func(f api.Forest) { f.Nodes[5].Kind = 9 },
+		func(f api.Forest) { f.Nodes[5].Name = "u" },
+		func(f api.Forest) { f.Nodes[5].Is = "x-a" },
+		func(f api.Forest) { f.Nodes[4].Data = "u" },
+		func(f api.Forest) { f.Nodes[1].Attrs[1].Value = "2" },
+		func(f api.Forest) { f.Nodes[5].Parent = 4 },
+		func(f api.Forest) { f.Nodes[3].Kids[0] = 4 },
+		func(f api.Forest) { f.Nodes[12].Host = 4 },
+		func(f api.Forest) { f.Nodes[3].Under = 4 },
+		func(f api.Forest) { f.Nodes[26].Doc = 20 },
+		func(f api.Forest) { f.Nodes[3].Kids = f.Nodes[3].Kids[:2] },
+		func(f api.Forest) { f.Nodes[1].Attrs = nil },
+		func(f api.Forest) { _ = append(f.Nodes, api.Node{}) },
+		func(f api.Forest) { _ = append(f.Nodes[3].Kids, 1) },
+		func(f api.Forest) { _ = append(f.Nodes[1].Attrs, api.Attr{}) },
+		sample.Scribble,
+	}
+}
+
+// Who changes what he is given, or its spare room, is found out; who doesn't, isn't.
+func TestUntouched(t *testing.T) {
+	if !sample.Untouched(sample.Grove(), func(f api.Forest) { forest.Order(f, 0) }) {
+		t.Error("a call that changes nothing is told to change something")
+	}
+	for i, change := range changes() {
+		if sample.Untouched(sample.Grove(), change) {
+			t.Errorf("the change %d isn't seen", i)
+		}
+	}
+}
+
+// Forests are the same just where all is.
+func TestSame(t *testing.T) {
+	if !sample.Same(sample.Grove(), sample.Copy(sample.Grove())) {
+		t.Error("a copy isn't the same")
+	}
+	for i, change := range changes()[:12] {
+		f, g := sample.Grove(), sample.Copy(sample.Grove())
+		h := sample.Copy(f)
+		change(h)
+		if sample.Same(f, h) || !sample.Same(f, g) {
+			t.Errorf("the change %s isn't seen, or one of a copy", strconv.Itoa(i))
+		}
+	}
+	if sample.Same(sample.Grove(), sample.Full(sample.Grove())) || sample.Same(sample.Forest(9), sample.Forest(9, sample.Elem("p"))) {
+		t.Error("other forests are the same")
+	}
+}
+
+// A test that asks for what there isn't is told so.
+func TestPanics(t *testing.T) {
+	for what, ask := range map[string]func(){
+		"no room at all": func() { sample.Forest(0) },
+		"no room":        func() { sample.Forest(1, sample.Elem("p")) },
+		"no name":        func() { sample.Forest(9, sample.Elem("P")) },
+		"no document":    func() { sample.Forest(9, sample.Of(1, sample.Text(""))) },
+	} {
+		func() {
+			defer func() {
+				if recover() == nil {
+					t.Errorf("%s: planted", what)
+				}
+			}()
+			ask()
+		}()
+	}
+}

@@ -1,0 +1,77 @@
+package sample
+
+import "instar/api"
+
+// chance answers numbers without an order to be seen, the same ones for each seed.
+type chance uint64
+
+// below answers a number from 0 to below n.
+func (c *chance) below(n int) int {
+	*c = *c*6364136223846793005 + 1442695040888963407
+	return int(*c>>33) % n
+}
+
+// pick answers one of l.
+func (c *chance) pick(l ...string) string {
+	return l[c.below(len(l))]
+}
+
+// Tangle answers a forest of 20 nodes, of one or more documents, that chance has put together, the same
+// one for each seed.
+func Tangle(seed int) api.Forest {
+	c := chance(seed)
+	docs := []int{0}
+	f := Forest(api.MaxNodes)
+	for len(f.Nodes) < 20 {
+		doc := docs[c.below(len(docs))]
+		switch c.below(9) {
+		case 0:
+			f = Plant(f, Of(doc, api.Node{Kind: api.Frag}))
+		case 1, 2:
+			f = Plant(f, Of(doc, Text("t")))
+		case 3:
+			if n := c.below(len(f.Nodes)); f.Nodes[n].Kind == api.Elem && f.Nodes[n].Under == api.None {
+				Cast(&f, n)
+			}
+		case 4:
+			if c.below(3) == 0 {
+				docs = append(docs, len(f.Nodes))
+				f = Plant(f, api.Node{Kind: api.Doc})
+			}
+		default:
+			f = Plant(f, Of(doc, Elem(c.pick("p", "x-a", "b", "div"))))
+		}
+	}
+	for range 40 {
+		tie(f, c.below(20), c.below(20), c.below(2) == 0)
+	}
+	return f
+}
+
+// tie puts kid under p, as its first child or its last one, where both may be so.
+func tie(f api.Forest, p, kid int, first bool) {
+	parent, child := f.Nodes[p], f.Nodes[kid]
+	switch {
+	case child.Kind != api.Elem && child.Kind != api.Text, child.Parent != api.None, child.Doc != parent.Doc:
+		return
+	case parent.Kind == api.Text, parent.Kind == api.Doc && (child.Kind == api.Text || len(parent.Kids) > 0), over(f, kid, p):
+		return
+	}
+	Hang(f, p, kid)
+	if kids := f.Nodes[p].Kids; first {
+		copy(kids[1:], kids)
+		kids[0] = kid
+	}
+}
+
+// over tells whether a is b, or stands on the way up from it.
+func over(f api.Forest, a, b int) bool {
+	for b != a && b != api.None {
+		if up := f.Nodes[b].Parent; up != api.None {
+			b = up
+		} else {
+			b = f.Nodes[b].Host
+		}
+	}
+	return b == a
+}
