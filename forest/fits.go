@@ -4,6 +4,7 @@ import (
 	"instar/api"
 	"instar/attr"
 	"instar/name"
+	"instar/walk"
 )
 
 // fits tells whether the node n, as far as one sees from itself and those that it names, may be.
@@ -102,22 +103,14 @@ func waysEnd(nodes []api.Node) bool {
 	ends := make([]bool, len(nodes))
 	for n := range nodes {
 		steps := 0
-		for at := n; at != api.None && !ends[at]; at = up(nodes[at]) {
+		for at := n; at != api.None && !ends[at]; at = walk.Up(nodes[at]) {
 			if steps++; steps > len(nodes) {
 				return false
 			}
 		}
-		for at := n; at != api.None && !ends[at]; at = up(nodes[at]) {
+		for at := n; at != api.None && !ends[at]; at = walk.Up(nodes[at]) {
 			ends[at] = true
 		}
 	}
 	return true
-}
-
-// up answers who comes next on the way up.
-func up(n api.Node) int {
-	if n.Parent != api.None {
-		return n.Parent
-	}
-	return n.Host
 }

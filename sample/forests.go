@@ -44,6 +44,31 @@ func Grove() api.Forest {
 	return f
 }
 
+// Glade has each kind of Doc and of Frag, by what stands in them:
+//
+//	0 Doc: 1 div: 2 b, 3 Text, 4 p;   4's shadow, 6 Shade: 5 x-a;   7 Doc, empty
+//	Frags: 8, empty;   9: 10 ul: (11 li, 12 Text);   13: 14 i, 15 i;   16: 17 Text;   18: 19 b, 20 Text
+//	21 a, alone;   22 Text, alone;   23 Doc: 24 div;   25 p of 23, alone;   26 Doc, empty
+func Glade() api.Forest {
+	doc, frag := api.Node{Kind: api.Doc}, api.Node{Kind: api.Frag}
+	f := Forest(30, Elem("div"), Elem("b"), Text("t"), Elem("p"), Elem("x-a"))
+	Hang(f, 0, 1)
+	Hang(f, 1, 2, 3, 4)
+	shade := Cast(&f, 4)
+	Hang(f, shade, 5)
+	f = Plant(f, doc, frag, frag, Elem("ul"), Elem("li"), Text("u"),
+		frag, Elem("i"), Elem("i"), frag, Text("v"), frag, Elem("b"), Text(""),
+		Elem("a"), Text("w"), doc)
+	Hang(f, 9, 10)
+	Hang(f, 10, 11, 12)
+	Hang(f, 13, 14, 15)
+	Hang(f, 16, 17)
+	Hang(f, 18, 19, 20)
+	f = Plant(f, Of(23, Elem("div")), Of(23, Elem("p")), doc)
+	Hang(f, 23, 24)
+	return f
+}
+
 // Chain is a Doc and Elems, so many nodes (or one more), each Elem in the one before, or, where shadows is
 // true, in its shadow.
 func Chain(count int, shadows bool) api.Forest {

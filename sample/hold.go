@@ -2,6 +2,7 @@ package sample
 
 import (
 	"slices"
+	"strconv"
 
 	"instar/api"
 )
@@ -93,4 +94,31 @@ func Scribble(f api.Forest) {
 		}
 		all[i] = api.Node{Kind: 999, Name: "mine"}
 	}
+}
+
+// Apart tells whether no two lists that hang on f share memory, spare room and all. It changes all of them.
+func Apart(f api.Forest) bool {
+	var kids [][]int
+	var attrs [][]api.Attr
+	for _, n := range f.Nodes {
+		kids, attrs = append(kids, n.Kids[:cap(n.Kids)]), append(attrs, n.Attrs[:cap(n.Attrs)])
+	}
+	number := func(i int) int { return i }
+	label := func(i int) api.Attr { return api.Attr{Value: strconv.Itoa(i)} }
+	return apart(kids, number) && apart(attrs, label)
+}
+
+// apart writes into each list what no other one gets, and looks whether it is still there.
+func apart[T comparable](lists [][]T, own func(i int) T) bool {
+	for i, l := range lists {
+		for j := range l {
+			l[j] = own(i)
+		}
+	}
+	for i, l := range lists {
+		if slices.ContainsFunc(l, func(x T) bool { return x != own(i) }) {
+			return false
+		}
+	}
+	return true
 }

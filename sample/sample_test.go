@@ -23,9 +23,11 @@ func TestForests(t *testing.T) {
 		}
 		sample.Scribble(f)
 	}
-	for what, f := range sample.Right() {
-		if !forest.Right(f) {
-			t.Errorf("%s isn't right any more", what)
+	for _, all := range []map[string]api.Forest{sample.Right(), sample.Meadows()} {
+		for what, f := range all {
+			if !forest.Right(f) {
+				t.Errorf("%s isn't right, or not any more", what)
+			}
 		}
 	}
 }
@@ -123,6 +125,28 @@ func TestSame(t *testing.T) {
 	}
 	if sample.Same(sample.Grove(), sample.Full(sample.Grove())) || sample.Same(sample.Forest(9), sample.Forest(9, sample.Elem("p"))) {
 		t.Error("other forests are the same")
+	}
+}
+
+// Lists that share memory are found out, where they overlap or lie in another's spare room; others aren't.
+func TestApart(t *testing.T) {
+	share := []int{1, 2, 3, 4}
+	attrs := []api.Attr{{Name: "a"}, {Name: "b"}}
+	for i, c := range []struct {
+		f     api.Forest
+		apart bool
+	}{
+		{sample.Grove(), true}, {api.Forest{}, true},
+		{api.Forest{Nodes: []api.Node{{Kids: share[:2]}, {}, {Kids: share[2:]}}}, false},
+		{api.Forest{Nodes: []api.Node{{Kids: share[:2:2]}, {}, {Kids: share[2:]}}}, true},
+		{api.Forest{Nodes: []api.Node{{Kids: share}, {}, {Kids: share}}}, false},
+		{api.Forest{Nodes: []api.Node{{Kids: share[:0]}, {Kids: share[3:3]}}}, false},
+		{api.Forest{Nodes: []api.Node{{Attrs: attrs[1:]}, {Attrs: attrs[:1]}}}, false},
+		{api.Forest{Nodes: []api.Node{{Attrs: attrs[1:]}, {Attrs: attrs[:1:1]}}}, true},
+	} {
+		if sample.Apart(c.f) != c.apart {
+			t.Errorf("the forest %d: told to be apart: %v", i, !c.apart)
+		}
 	}
 }
 

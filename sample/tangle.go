@@ -1,6 +1,10 @@
 package sample
 
-import "instar/api"
+import (
+	"strconv"
+
+	"instar/api"
+)
 
 // chance answers numbers without an order to be seen, the same ones for each seed.
 type chance uint64
@@ -46,6 +50,15 @@ func Tangle(seed int) api.Forest {
 		tie(f, c.below(20), c.below(20), c.below(2) == 0)
 	}
 	return f
+}
+
+// Meadows answers small forests with all that may stand somewhere, each of them right.
+func Meadows() map[string]api.Forest {
+	all := map[string]api.Forest{"glade": Glade(), "glade, full": Full(Glade()), "grove": Grove()}
+	for seed := range 20 {
+		all["tangle "+strconv.Itoa(seed)] = Tangle(seed)
+	}
+	return all
 }
 
 // tie puts kid under p, as its first child or its last one, where both may be so.

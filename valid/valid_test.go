@@ -2,7 +2,6 @@ package valid_test
 
 import (
 	"slices"
-	"strconv"
 	"testing"
 
 	"instar/api"
@@ -20,7 +19,7 @@ type step struct {
 // checkSteps asks May and Swap in the glade.
 func checkSteps(t *testing.T, steps ...step) {
 	t.Helper()
-	f := glade()
+	f := sample.Glade()
 	for _, s := range steps {
 		if err := valid.May(f, s.n, s.p, s.child); err != s.may {
 			t.Errorf("May(%d, %d, %d) = %d, not %d", s.n, s.p, s.child, err, s.may)
@@ -125,7 +124,7 @@ func TestTurn(t *testing.T) {
 // P5.1, P5.2: ahead of all is told who isn't there: the node, the parent, the child but None.
 func TestNobody(t *testing.T) {
 	all := sample.Right()
-	all["glade"] = glade()
+	all["glade"] = sample.Glade()
 	for what, f := range all {
 		for _, wrong := range sample.WrongNumbers(f) {
 			for _, n := range sample.Some(f) {
@@ -186,7 +185,7 @@ func checkParts(t *testing.T, what string, f api.Forest) {
 
 // P5.3: what is put.
 func TestParts(t *testing.T) {
-	f := glade()
+	f := sample.Glade()
 	for n := range f.Nodes {
 		want := []int{n}
 		switch n {
@@ -213,8 +212,8 @@ func TestParts(t *testing.T) {
 
 // P5.3: what Parts answers is the caller's own.
 func TestPartsOwn(t *testing.T) {
-	for n := range glade().Nodes {
-		given, whole := sample.Roomy(glade())
+	for n := range sample.Glade().Nodes {
+		given, whole := sample.Roomy(sample.Glade())
 		l := valid.Parts(given, n)
 		for i := range l[:cap(l)] {
 			l[:cap(l)][i] = 999
@@ -227,7 +226,7 @@ func TestPartsOwn(t *testing.T) {
 
 // P5.3: ahead of which child; None where May tells an error, though Swap may tell none.
 func TestBefore(t *testing.T) {
-	f := glade()
+	f := sample.Glade()
 	for _, c := range [][4]int{
 		{21, 1, 2, 2}, {21, 1, 3, 3}, {21, 1, 4, 4}, {21, 1, api.None, api.None}, {9, 1, 3, 3}, {8, 1, 4, 4}, {24, 6, 5, 5},
 		{2, 1, 2, 3}, {3, 1, 3, 4}, {4, 1, 4, api.None}, {14, 13, 14, 15}, {15, 13, 15, api.None}, {10, 9, 10, api.None}, {5, 6, 5, api.None},
@@ -270,19 +269,10 @@ func checkWords(t *testing.T, what string, f api.Forest) {
 	}
 }
 
-// meadows are small forests with all that may stand somewhere.
-func meadows() map[string]api.Forest {
-	all := map[string]api.Forest{"glade": glade(), "glade, full": sample.Full(glade()), "grove": sample.Grove()}
-	for seed := range 20 {
-		all["tangle "+strconv.Itoa(seed)] = sample.Tangle(seed)
-	}
-	return all
-}
-
 // P5.1 to P5.3: all steps, by the chapter's words; the forests stay as they are.
 func TestWords(t *testing.T) {
 	all := sample.Right()
-	for what, f := range meadows() {
+	for what, f := range sample.Meadows() {
 		all[what] = f
 	}
 	for what, f := range all {
@@ -311,7 +301,7 @@ func checkPut(t *testing.T, what string, f api.Forest, n, p, ahead int, err api.
 
 // P5.1 to P5.3: a forest stays right by what may be, and doesn't by what may not.
 func TestPut(t *testing.T) {
-	for what, f := range meadows() {
+	for what, f := range sample.Meadows() {
 		for n := range f.Nodes {
 			for p, parent := range f.Nodes {
 				checkPut(t, what, f, n, p, api.None, valid.May(f, n, p, api.None))

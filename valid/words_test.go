@@ -115,28 +115,3 @@ func put(f api.Forest, parts []int, p, ahead int) api.Forest {
 	}
 	return g
 }
-
-// glade has each kind of Doc and of Frag, by what stands in them:
-//
-//	0 Doc: 1 div: 2 b, 3 Text, 4 p;   4's shadow, 6 Shade: 5 x-a;   7 Doc, empty
-//	Frags: 8, empty;   9: 10 ul: (11 li, 12 Text);   13: 14 i, 15 i;   16: 17 Text;   18: 19 b, 20 Text
-//	21 a, alone;   22 Text, alone;   23 Doc: 24 div;   25 p of 23, alone;   26 Doc, empty
-func glade() api.Forest {
-	doc, frag := api.Node{Kind: api.Doc}, api.Node{Kind: api.Frag}
-	f := sample.Forest(30, sample.Elem("div"), sample.Elem("b"), sample.Text("t"), sample.Elem("p"), sample.Elem("x-a"))
-	sample.Hang(f, 0, 1)
-	sample.Hang(f, 1, 2, 3, 4)
-	shade := sample.Cast(&f, 4)
-	sample.Hang(f, shade, 5)
-	f = sample.Plant(f, doc, frag, frag, sample.Elem("ul"), sample.Elem("li"), sample.Text("u"),
-		frag, sample.Elem("i"), sample.Elem("i"), frag, sample.Text("v"), frag, sample.Elem("b"), sample.Text(""),
-		sample.Elem("a"), sample.Text("w"), doc)
-	sample.Hang(f, 9, 10)
-	sample.Hang(f, 10, 11, 12)
-	sample.Hang(f, 13, 14, 15)
-	sample.Hang(f, 16, 17)
-	sample.Hang(f, 18, 19, 20)
-	f = sample.Plant(f, sample.Of(23, sample.Elem("div")), sample.Of(23, sample.Elem("p")), doc)
-	sample.Hang(f, 23, 24)
-	return f
-}
