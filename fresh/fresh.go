@@ -16,3 +16,15 @@ func Forest(f api.Forest) api.Forest {
 	}
 	return api.Forest{Nodes: nodes, Most: f.Most}
 }
+
+// Alone answers n as a node of the number at, with nobody about it; a Doc is its own.
+func Alone(n api.Node, at int) api.Node {
+	doc := n.Doc
+	if n.Kind == api.Doc {
+		doc = at
+	}
+	return api.Node{
+		Kind: n.Kind, Name: n.Name, Is: n.Is, Data: n.Data, Attrs: slices.Clone(n.Attrs),
+		Parent: api.None, Host: api.None, Under: api.None, Doc: doc,
+	}
+}

@@ -39,3 +39,21 @@ func TestForest(t *testing.T) {
 		t.Errorf("a change of what was handed in changed the copy: %v", h)
 	}
 }
+
+// Whoever is alone has nobody about it, keeps all else, and shares nothing; a Doc is its own.
+func TestAlone(t *testing.T) {
+	f := two()
+	for kind, doc := range map[int]int{api.Doc: 9, api.Elem: 15, api.Text: 15, api.Frag: 15, api.Shade: 15, 77: 15} {
+		n := f.Nodes[1]
+		n.Kind = kind
+		want := api.Node{Kind: kind, Name: "n", Is: "i", Data: "d", Attrs: []api.Attr{{Name: "a", Value: "1"}, {Name: "b", Value: "2"}}, Parent: -1, Host: -1, Under: -1, Doc: doc}
+		got := fresh.Alone(n, 9)
+		if !sample.SameNode(got, want) {
+			t.Errorf("alone: %v, not %v", got, want)
+		}
+		sample.Scribble(api.Forest{Nodes: []api.Node{got}})
+	}
+	if !sample.Same(f, two()) {
+		t.Errorf("what was handed in has changed: %v", f)
+	}
+}

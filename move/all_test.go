@@ -46,34 +46,12 @@ func TestWords(t *testing.T) {
 	}
 }
 
-// great are the greatest forests, with room for no more; each has a second document, the last node.
-func great() map[string]api.Forest {
-	all := map[string]api.Forest{}
-	for what, f := range map[string]api.Forest{
-		"deep":         sample.Chain(api.MaxNodes-1, false),
-		"deep shadows": sample.Chain(api.MaxNodes-2, true),
-		"wide":         sample.Wide(api.MaxNodes - 1),
-		"wide Frag":    sample.Wide(api.MaxNodes - 1),
-	} {
-		for len(f.Nodes) < api.MaxNodes {
-			f = sample.Plant(f, api.Node{Kind: api.Doc})
-		}
-		all[what] = f
-	}
-	f := all["wide Frag"]
-	f.Nodes[1].Kind, f.Nodes[1].Name = api.Frag, ""
-	return all
-}
-
 // P6.1, P6.2, P6.4: a few steps of the greatest forests, whole trees to another document among them.
 func TestGreat(t *testing.T) {
-	for what, f := range great() {
-		if !forest.Right(f) || len(f.Nodes) != f.Most {
-			t.Fatalf("%s: not the forest that was meant", what)
-		}
+	for what, f := range sample.Great() {
 		checkAll(t, what, f, []int{0, 1, 2, 3, 200, 397, 398, 399})
 	}
-	wide := great()["wide Frag"]
+	wide := sample.Great()["wide Frag"]
 	wide.Nodes[2].Under, wide.Nodes[3] = api.None, api.Node{Kind: api.Elem, Name: "p", Parent: 399, Host: api.None, Under: api.None, Doc: 399}
 	wide.Nodes[399].Kids = []int{3}
 	checkCall(t, "a great Frag elsewhere", wide, insert(1, 3, api.None), insertByWords(wide, 1, 3, api.None))

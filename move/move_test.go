@@ -27,21 +27,21 @@ func replace(n, p, child int) call {
 // and shares nothing with the answer.
 func checkCall(t *testing.T, what string, f api.Forest, do call, want deed) {
 	t.Helper()
-	given, whole := sample.Roomy(f)
-	g, notes, err := do(given)
+	var notes []api.Note
+	var err api.Errno
+	g, fault := sample.Ask(f, func(f api.Forest) api.Forest {
+		f, notes, err = do(f)
+		return f
+	})
 	if err != want.err || !slices.Equal(notes, want.notes) {
 		t.Errorf("%s: %v, %d, not %v, %d", what, notes, err, want.notes, want.err)
+	}
+	if fault != "" {
+		t.Errorf("%s: %s", what, fault)
 	}
 	checkForest(t, what, g, want.f)
 	if err == api.OK {
 		checkLife(t, what, f, g, notes)
-	}
-	if !sample.Apart(g) {
-		t.Errorf("%s: lists of the answer share memory", what)
-	}
-	sample.Scribble(g)
-	if !sample.Stays(given, whole) {
-		t.Errorf("%s: what was handed in is changed, or shared", what)
 	}
 }
 
@@ -108,25 +108,7 @@ func connected(f api.Forest) []int {
 	return is
 }
 
-func notes(kind int, elems ...int) []api.Note {
-	var l []api.Note
-	for _, n := range elems {
-		l = append(l, api.Note{Kind: kind, Node: n})
-	}
-	return l
-}
-
-func came(elems ...int) []api.Note { return notes(api.Came, elems...) }
-
-func went(elems ...int) []api.Note { return notes(api.Went, elems...) }
-
-func moved(from, to int, elems ...int) []api.Note {
-	l := notes(api.Moved, elems...)
-	for i := range l {
-		l[i].From, l[i].To = from, to
-	}
-	return l
-}
+var came, went, moved = sample.Came, sample.Went, sample.Moved
 
 // step is a step in the glade: of n, p and child; p's children then; and what is told, list by list.
 type step struct {

@@ -97,6 +97,25 @@ func Wide(count int) api.Forest {
 	return f
 }
 
+// Great answers the greatest forests, with room for no more; each has a second document, the last node.
+func Great() map[string]api.Forest {
+	all := map[string]api.Forest{}
+	for what, f := range map[string]api.Forest{
+		"deep":         Chain(api.MaxNodes-1, false),
+		"deep shadows": Chain(api.MaxNodes-2, true),
+		"wide":         Wide(api.MaxNodes - 1),
+		"wide Frag":    Wide(api.MaxNodes - 1),
+	} {
+		for len(f.Nodes) < api.MaxNodes {
+			f = Plant(f, api.Node{Kind: api.Doc})
+		}
+		all[what] = f
+	}
+	f := all["wide Frag"]
+	f.Nodes[1].Kind, f.Nodes[1].Name = api.Frag, ""
+	return all
+}
+
 // Right answers forests that are right, the greatest ones among them.
 func Right() map[string]api.Forest {
 	loose := Forest(9, Elem("p"))

@@ -108,6 +108,22 @@ func Apart(f api.Forest) bool {
 	return apart(kids, number) && apart(attrs, label)
 }
 
+// Ask answers, in memory of its own, what a call answers to f, and, if it isn't careful with memory, how so:
+// it changes what it is given, spare room and all, or shares memory with that, or its lists do with each other.
+func Ask(f api.Forest, call func(f api.Forest) api.Forest) (api.Forest, string) {
+	given, whole := Roomy(f)
+	g := call(given)
+	answer := Copy(g)
+	if !Apart(g) {
+		return answer, "lists of the answer share memory"
+	}
+	Scribble(g)
+	if !Stays(given, whole) {
+		return answer, "what was handed in is changed, or shared"
+	}
+	return answer, ""
+}
+
 // apart writes into each list what no other one gets, and looks whether it is still there.
 func apart[T comparable](lists [][]T, own func(i int) T) bool {
 	for i, l := range lists {

@@ -1,6 +1,7 @@
 package sample_test
 
 import (
+	"slices"
 	"strconv"
 	"testing"
 
@@ -23,11 +24,20 @@ func TestForests(t *testing.T) {
 		}
 		sample.Scribble(f)
 	}
-	for _, all := range []map[string]api.Forest{sample.Right(), sample.Meadows()} {
+	for _, all := range []map[string]api.Forest{sample.Right(), sample.Meadows(), sample.Great()} {
 		for what, f := range all {
 			if !forest.Right(f) {
 				t.Errorf("%s isn't right, or not any more", what)
 			}
+		}
+	}
+}
+
+// Of the greatest forests none has room, and each has a document more.
+func TestGreat(t *testing.T) {
+	for what, f := range sample.Great() {
+		if len(f.Nodes) != api.MaxNodes || f.Most != api.MaxNodes || f.Nodes[399].Kind != api.Doc {
+			t.Errorf("%s: not the forest that was meant", what)
 		}
 	}
 }
@@ -106,6 +116,48 @@ func TestUntouched(t *testing.T) {
 	for i, change := range changes() {
 		if sample.Untouched(sample.Grove(), change) {
 			t.Errorf("the change %d isn't seen", i)
+		}
+	}
+}
+
+// Who asks is told what the call answers, and how it isn't careful, if it isn't.
+func TestAsk(t *testing.T) {
+	want := sample.Grove()
+	want.Nodes[5].Kids = []int{1, 2}
+	answer := func(f api.Forest) api.Forest {
+		g := sample.Copy(f)
+		g.Nodes[5].Kids = []int{1, 2}
+		return g
+	}
+	for what, call := range map[string]func(f api.Forest) api.Forest{
+		"":                                 answer,
+		"lists of the answer share memory": func(f api.Forest) api.Forest { g := answer(f); g.Nodes[6].Kids = g.Nodes[5].Kids[:0]; return g },
+		"what was handed in is changed, or shared": func(f api.Forest) api.Forest { g := answer(f); g.Nodes[1].Attrs = f.Nodes[1].Attrs; return g },
+	} {
+		if g, fault := sample.Ask(sample.Grove(), call); fault != what || !sample.Same(g, want) {
+			t.Errorf("%q: told %q, and answered %v", what, fault, g)
+		}
+	}
+	for i, change := range changes() {
+		if _, fault := sample.Ask(sample.Grove(), func(f api.Forest) api.Forest { change(f); return api.Forest{} }); fault == "" {
+			t.Errorf("the change %d isn't seen", i)
+		}
+	}
+	if g, fault := sample.Ask(sample.Grove(), func(f api.Forest) api.Forest { return f }); fault == "" || !sample.Same(g, sample.Grove()) {
+		t.Errorf("what was handed in is answered, told %q: %v", fault, g)
+	}
+}
+
+// What is told of elements names each of them, in order, and only of Moved the documents.
+func TestNotes(t *testing.T) {
+	for _, c := range []struct{ l, want []api.Note }{
+		{sample.Came(), nil},
+		{sample.Came(3, 1), []api.Note{{Kind: api.Came, Node: 3}, {Kind: api.Came, Node: 1}}},
+		{sample.Went(2), []api.Note{{Kind: api.Went, Node: 2}}},
+		{sample.Moved(7, 0, 1, 2), []api.Note{{Kind: api.Moved, Node: 1, From: 7}, {Kind: api.Moved, Node: 2, From: 7}}},
+	} {
+		if !slices.Equal(c.l, c.want) {
+			t.Errorf("%v, not %v", c.l, c.want)
 		}
 	}
 }
