@@ -17,6 +17,12 @@ func Forest(f api.Forest) api.Forest {
 	return api.Forest{Nodes: nodes, Most: f.Most}
 }
 
+// Desk answers d in memory of its own.
+func Desk(d api.Desk) api.Desk {
+	d.Defs, d.Waits = slices.Clone(d.Defs), slices.Clone(d.Waits)
+	return d
+}
+
 // Alone answers n as a node of the number at, with nobody about it; a Doc is its own.
 func Alone(n api.Node, at int) api.Node {
 	doc := n.Doc

@@ -57,3 +57,13 @@ func TestAlone(t *testing.T) {
 		t.Errorf("what was handed in has changed: %v", f)
 	}
 }
+
+// A desk's copy is the same, and sees nothing of what is done to what it was made of, nor the other way round.
+func TestDesk(t *testing.T) {
+	for what, d := range sample.RightDesks() {
+		d.Busy = !d.Busy
+		if e, careful := sample.AskDesk(d, fresh.Desk); !careful || !sample.SameDesk(d, e) {
+			t.Errorf("%s: not the same, or not carefully copied: %v", what, careful)
+		}
+	}
+}
