@@ -12,6 +12,9 @@ import (
 // Elem answers an element to be planted.
 func Elem(name string) api.Node { return api.Node{Kind: api.Elem, Name: name} }
 
+// ElemIs answers an element to be planted, of that Is.
+func ElemIs(name, is string) api.Node { return api.Node{Kind: api.Elem, Name: name, Is: is} }
+
 // Text answers a Text to be planted.
 func Text(data string) api.Node { return api.Node{Kind: api.Text, Data: data} }
 

@@ -2,6 +2,7 @@ package sample_test
 
 import (
 	"slices"
+	"strconv"
 	"testing"
 
 	"instar/api"
@@ -35,6 +36,32 @@ func TestDesks(t *testing.T) {
 	}
 	if d := sample.Manned(); len(d.Defs) != 12 || len(d.Waits) != 100000 || d.Next != 100000 {
 		t.Error("not the desk that was meant")
+	}
+}
+
+// Offices are right, the same for each seed, and have each definition somewhere, at each place.
+func TestOffices(t *testing.T) {
+	found := map[string]int{}
+	for seed := range 300 {
+		d := sample.Office(seed)
+		if !desk.Right(d) || !sample.SameDesk(d, sample.Office(seed)) {
+			t.Errorf("the office %d isn't right, or another one when asked for again", seed)
+		}
+		for at, x := range d.Defs {
+			found[x.Name+" for "+x.Local]++
+			found[x.Name+" at "+strconv.Itoa(at)]++
+		}
+		for _, w := range d.Waits {
+			found[w.Name+" waits"]++
+		}
+	}
+	if len(found) != 21 {
+		t.Errorf("not the desks that were meant: %v", found)
+	}
+	for what, times := range found {
+		if times < 10 {
+			t.Errorf("seldom there: %s", what)
+		}
 	}
 }
 

@@ -69,6 +69,33 @@ func Glade() api.Forest {
 	return f
 }
 
+// Clan has elements that Desk's definitions are for, and such as they only seem to be for:
+//
+//	0 Doc: 9 div: 7 x-a!x-c, 6 Text, 1 button!x-c, 11 x-b, 10 button!x-a, 8 button, 4 x-c, 12 x-c!x-c,
+//	3 p!x-c, 14 button!x-b, 15 p!x-a;   under 7: 5 x-a!x-b, and in its shadow, 16 Shade: 13 button!x-c: 2 x-a
+//	17 Frag: 18 x-a, 19 button!x-c;   20 x-a, alone;   21 div, alone (in its shadow, 23 Shade: 22 x-a)
+//	24 Doc: 25 x-a: 26 button!x-c, both of it, and so 27 x-a, alone
+func Clan() api.Forest {
+	f := Forest(40, ElemIs("button", "x-c"), Elem("x-a"), ElemIs("p", "x-c"), Elem("x-c"), ElemIs("x-a", "x-b"), Text("t"),
+		ElemIs("x-a", "x-c"), Elem("button"), Elem("div"), ElemIs("button", "x-a"), Elem("x-b"), ElemIs("x-c", "x-c"),
+		ElemIs("button", "x-c"), ElemIs("button", "x-b"), ElemIs("p", "x-a"))
+	Hang(f, 0, 9)
+	Hang(f, 9, 7, 6, 1, 11, 10, 8, 4, 12, 3, 14, 15)
+	Hang(f, 7, 5)
+	shade := Cast(&f, 7)
+	Hang(f, shade, 13)
+	Hang(f, 13, 2)
+	f = Plant(f, api.Node{Kind: api.Frag}, Elem("x-a"), ElemIs("button", "x-c"), Elem("x-a"), Elem("div"), Elem("x-a"))
+	Hang(f, 17, 18, 19)
+	shade = Cast(&f, 21)
+	Hang(f, shade, 22)
+	f = Plant(f, api.Node{Kind: api.Doc})
+	f = Plant(f, Of(24, Elem("x-a")), Of(24, ElemIs("button", "x-c")), Of(24, Elem("x-a")))
+	Hang(f, 24, 25)
+	Hang(f, 25, 26)
+	return f
+}
+
 // Chain is a Doc and Elems, so many nodes (or one more), each Elem in the one before, or, where shadows is
 // true, in its shadow.
 func Chain(count int, shadows bool) api.Forest {

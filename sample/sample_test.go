@@ -70,6 +70,42 @@ func TestTangles(t *testing.T) {
 	}
 }
 
+// The clan is right, and its nodes are those that are told of.
+func TestClan(t *testing.T) {
+	f := sample.Clan()
+	if !forest.Right(f) || len(f.Nodes) != 28 || f.Nodes[13].Parent != f.Nodes[7].Under || f.Nodes[2].Parent != 13 || f.Nodes[26].Doc != 24 {
+		t.Errorf("not the forest that was meant: %v", f)
+	}
+	for n, want := range map[int]api.Node{2: sample.Elem("x-a"), 5: sample.ElemIs("x-a", "x-b"), 13: sample.ElemIs("button", "x-c"), 19: sample.ElemIs("button", "x-c"), 22: sample.Elem("x-a"), 27: sample.Elem("x-a")} {
+		if got := f.Nodes[n]; got.Name != want.Name || got.Is != want.Is {
+			t.Errorf("the node %d is %s!%s", n, got.Name, got.Is)
+		}
+	}
+}
+
+// Masked tangles are right, the same for each seed, and have elements of each name and Is.
+func TestMasked(t *testing.T) {
+	found := map[[2]string]int{}
+	for seed := range 200 {
+		f := sample.Masked(seed)
+		if !forest.Right(f) || !sample.Same(f, sample.Masked(seed)) {
+			t.Errorf("masked %d isn't right, or another one when asked for again", seed)
+		}
+		for n, e := range sample.Tangle(seed).Nodes {
+			if e.Kind == api.Elem {
+				found[[2]string{f.Nodes[n].Name, f.Nodes[n].Is}]++
+			}
+		}
+	}
+	for _, s := range []string{"x-a", "x-b", "x-c", "button", "p"} {
+		for _, is := range []string{"", "x-a", "x-b", "x-c"} {
+			if found[[2]string{s, is}] < 20 {
+				t.Errorf("%s!%s is seldom there: %v", s, is, found)
+			}
+		}
+	}
+}
+
 // Numbers are wrong where they are told to be so, and of nodes where they are told to be some.
 func TestNumbers(t *testing.T) {
 	for what, f := range sample.Right() {

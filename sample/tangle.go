@@ -1,6 +1,7 @@
 package sample
 
 import (
+	"slices"
 	"strconv"
 
 	"instar/api"
@@ -50,6 +51,35 @@ func Tangle(seed int) api.Forest {
 		tie(f, c.below(20), c.below(20), c.below(2) == 0)
 	}
 	return f
+}
+
+// Masked answers the tangle of that seed, its elements of a few names and Is's, as chance has it.
+func Masked(seed int) api.Forest {
+	c, f := chance(seed), Tangle(seed)
+	for n := range f.Nodes {
+		if e := &f.Nodes[n]; e.Kind == api.Elem {
+			e.Name, e.Is = c.pick("x-a", "x-b", "x-c", "button", "p"), c.pick("", "x-a", "x-b", "x-c")
+		}
+	}
+	return f
+}
+
+// Office answers a desk that chance has put together, the same one for each seed: each of x-a, x-b and x-c is
+// defined, for itself, for buttons or for p, or waited for.
+func Office(seed int) api.Desk {
+	c, d := chance(seed), api.Desk{Busy: seed%2 == 0}
+	names := []string{"x-a", "x-b", "x-c"}
+	for class := 3; len(names) > 0; class-- {
+		at := c.below(len(names))
+		s := names[at]
+		names = slices.Delete(names, at, at+1)
+		if local := c.pick(s, "button", "p", ""); local != "" {
+			d.Defs = append(d.Defs, api.Def{Name: s, Local: local, Class: class})
+		} else {
+			d.Waits, d.Next = append(d.Waits, api.Wait{Name: s, Ticket: d.Next}), d.Next+1
+		}
+	}
+	return d
 }
 
 // Meadows answers small forests with all that may stand somewhere, each of them right.
