@@ -23,6 +23,11 @@ func Desk(d api.Desk) api.Desk {
 	return d
 }
 
+// Line answers l in memory of its own.
+func Line(l api.Line) api.Line {
+	return api.Line{Todos: lists(l.Todos), Stack: lists(l.Stack), Back: slices.Clone(l.Back), Busy: l.Busy}
+}
+
 // Alone answers n as a node of the number at, with nobody about it; a Doc is its own.
 func Alone(n api.Node, at int) api.Node {
 	doc := n.Doc
@@ -33,4 +38,13 @@ func Alone(n api.Node, at int) api.Node {
 		Kind: n.Kind, Name: n.Name, Is: n.Is, Data: n.Data, Attrs: slices.Clone(n.Attrs),
 		Parent: api.None, Host: api.None, Under: api.None, Doc: doc,
 	}
+}
+
+// lists answers these lists, each in memory of its own.
+func lists[T any](all [][]T) [][]T {
+	all = slices.Clone(all)
+	for i, l := range all {
+		all[i] = slices.Clone(l)
+	}
+	return all
 }

@@ -67,3 +67,23 @@ func TestDesk(t *testing.T) {
 		}
 	}
 }
+
+// So it is of a line, and no two of a copy's lists share memory, even where they did in what it was made of.
+func TestLine(t *testing.T) {
+	copied := func(l api.Line) (api.Line, []int) { return fresh.Line(l), nil }
+	for seed := range 100 {
+		all := map[string]api.Line{"some of all": sample.Line(), "a rank": sample.Rank(seed), "nothing": {}, "empty lists": {Todos: [][]api.Todo{}, Stack: [][]int{{}}}}
+		for what, l := range all {
+			if m, _, fault := sample.AskLine(l, copied); fault != "" || !sample.SameLine(l, m) {
+				t.Errorf("%s: not the same, or not carefully copied: %s", what, fault)
+			}
+		}
+	}
+	l := sample.Line()
+	l.Todos[0], l.Stack[0], l.Stack[1] = l.Todos[1][:2], l.Back, l.Back[1:]
+	l = fresh.Line(l)
+	l.Todos[0][1].Def, l.Stack[0][1], l.Back[2] = 77, 77, 77
+	if l.Todos[1][1].Def == 77 || l.Stack[1][0] == 77 || l.Back[1] == 77 || l.Stack[1][1] == 77 {
+		t.Errorf("lists of the copy share memory: %v", l)
+	}
+}
