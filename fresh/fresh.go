@@ -28,6 +28,17 @@ func Line(l api.Line) api.Line {
 	return api.Line{Todos: lists(l.Todos), Stack: lists(l.Stack), Back: slices.Clone(l.Back), Busy: l.Busy}
 }
 
+// Class answers c in memory of its own.
+func Class(c api.Class) api.Class {
+	hooks := slices.Clone(c.Hooks)
+	for i, h := range hooks {
+		hooks[i].Do = slices.Clone(h.Do)
+	}
+	return api.Class{
+		Form: c.Form, Watch: slices.Clone(c.Watch), Peek: slices.Clone(c.Peek), Make: slices.Clone(c.Make), Hooks: hooks,
+	}
+}
+
 // Alone answers n as a node of the number at, with nobody about it; a Doc is its own.
 func Alone(n api.Node, at int) api.Node {
 	doc := n.Doc

@@ -87,3 +87,24 @@ func TestLine(t *testing.T) {
 		t.Errorf("lists of the copy share memory: %v", l)
 	}
 }
+
+// A class's copy is the same, and no two lists of it, or of it and what it was made of, share memory.
+func TestClass(t *testing.T) {
+	all := sample.Classes()
+	all[3].Peek, all[3].Make, all[3].Watch = all[1].Make[:1], all[1].Make, all[0].Watch[:1]
+	for i, c := range append(all, sample.Guild(7)...) {
+		l, _, fault := sample.AskClasses([]api.Class{c}, func(l []api.Class) ([]api.Class, []api.Op) {
+			return []api.Class{fresh.Class(l[0])}, nil
+		})
+		if fault != "" || len(l) != 1 || !sample.SameClass(l[0], c) {
+			t.Errorf("%d: not the same, or not carefully copied: %q, %v", i, fault, l)
+		}
+	}
+	c := all[3]
+	c.Hooks = []api.Hook{{Kind: 1, Do: c.Make}, {Kind: 2, Do: c.Make[1:]}}
+	c = fresh.Class(c)
+	c.Hooks[0].Do[1].S, c.Peek[0].S = "mine", "mine"
+	if c.Hooks[1].Do[0].S == "mine" || c.Make[0].S == "mine" || c.Make[1].S == "mine" {
+		t.Errorf("lists of the copy share memory: %v", c)
+	}
+}

@@ -124,6 +124,14 @@ func Ask(f api.Forest, call func(f api.Forest) api.Forest) (api.Forest, string) 
 	return answer, ""
 }
 
+// Kept tells whether a call leaves the list that it is given, and its spare room, as it is.
+func Kept[T comparable](l []T, call func(l []T)) bool {
+	whole := append(slices.Clone(l), make([]T, room)...)
+	given := slices.Clone(whole)
+	call(given[:len(l)])
+	return slices.Equal(given, whole)
+}
+
 // apart writes into each list what no other one gets, and looks whether it is still there.
 func apart[T comparable](lists [][]T, own func(i int) T) bool {
 	for i, l := range lists {
