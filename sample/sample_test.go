@@ -8,6 +8,7 @@ import (
 	"instar/api"
 	"instar/forest"
 	"instar/sample"
+	"instar/shade"
 )
 
 // What is told to be right is so, what is told to be wrong isn't, and both come anew with each call.
@@ -103,6 +104,43 @@ func TestMasked(t *testing.T) {
 				t.Errorf("%s!%s is seldom there: %v", s, is, found)
 			}
 		}
+	}
+}
+
+// Bureaus are right, the same for each seed, and most of their elements are connected; many have each attribute.
+func TestBureaus(t *testing.T) {
+	elems, connected, found := 0, 0, map[string]int{}
+	for seed := range 200 {
+		f := sample.Bureau(seed)
+		if !forest.Right(f) || len(f.Nodes) != 20 || !sample.Same(f, sample.Bureau(seed)) {
+			t.Errorf("bureau %d isn't right, or another one when asked for again", seed)
+		}
+		for n, e := range f.Nodes {
+			found["kind "+strconv.Itoa(e.Kind)]++
+			if e.Kind != api.Elem {
+				continue
+			}
+			elems++
+			if shade.Connected(f, n) {
+				connected++
+			}
+			found[e.Name]++
+			for _, a := range e.Attrs {
+				found[a.Name]++
+				found[a.Name+"="+a.Value]++
+			}
+		}
+	}
+	for _, s := range []string{
+		"kind 0", "kind 1", "kind 2", "kind 3", "kind 4", "form", "fieldset", "legend", "x-a", "title", "id", "disabled",
+		"form=", "form=f", "form=g", "form=h", "id=", "id=f", "id=g",
+	} {
+		if found[s] < 50 {
+			t.Errorf("%s is seldom there: %v", s, found)
+		}
+	}
+	if elems < 2500 || connected < elems/2 {
+		t.Errorf("of %d elements %d are connected", elems, connected)
 	}
 }
 

@@ -82,6 +82,44 @@ func Office(seed int) api.Desk {
 	return d
 }
 
+// Bureau answers a forest of 20 nodes that chance has put together, the same one for each seed: most of its elements
+// are connected, and those of forms, with attributes that tell whose they are, and who is barred.
+func Bureau(seed int) api.Forest {
+	c, f := chance(seed), Forest(api.MaxNodes, Elem("p"))
+	Hang(f, 0, 1)
+	for len(f.Nodes) < 20 {
+		at := c.below(len(f.Nodes)-1) + 1
+		doc := f.Nodes[at].Doc
+		switch c.below(16) {
+		case 0:
+			f = Plant(f, Of(doc, api.Node{Kind: c.below(2) * api.Frag}))
+		case 1:
+			if f.Nodes[at].Kind == api.Elem && f.Nodes[at].Under == api.None {
+				Cast(&f, at)
+			}
+		case 2:
+			f = Plant(f, Of(doc, Text("f")))
+		default:
+			f = Plant(f, Of(doc, c.clerk()))
+		}
+		if kid := len(f.Nodes) - 1; c.below(9) > 0 {
+			tie(f, at, kid, c.below(2) == 0)
+		}
+	}
+	return f
+}
+
+// clerk answers an element of forms to be planted.
+func (c *chance) clerk() api.Node {
+	e := Elem(c.pick("form", "form", "fieldset", "fieldset", "legend", "x-a"))
+	for _, a := range []api.Attr{{Name: "title", Value: "f"}, {Name: "form", Value: c.pick("", "f", "g", "h")}, {Name: "disabled"}, {Name: "id", Value: c.pick("", "f", "g")}} {
+		if c.below(3) == 0 {
+			e.Attrs = append(e.Attrs, a)
+		}
+	}
+	return e
+}
+
 // Meadows answers small forests with all that may stand somewhere, each of them right.
 func Meadows() map[string]api.Forest {
 	all := map[string]api.Forest{"glade": Glade(), "glade, full": Full(Glade()), "grove": Grove()}

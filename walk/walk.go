@@ -24,6 +24,14 @@ func Top(nodes []api.Node, n int) int {
 	return n
 }
 
+// Root answers where the way from n to its parent, and so on, ends: it goes out of no shadow.
+func Root(nodes []api.Node, n int) int {
+	for nodes[n].Parent != api.None {
+		n = nodes[n].Parent
+	}
+	return n
+}
+
 // Tree answers tree order from n.
 func Tree(nodes []api.Node, n int) []int {
 	return order(nodes, n, false)

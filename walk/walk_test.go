@@ -40,6 +40,20 @@ func TestTopAndFull(t *testing.T) {
 	}
 }
 
+// Each tree of the grove has one root; a shadow's is its Shade.
+func TestRoot(t *testing.T) {
+	f := sample.Grove()
+	for n, tree := range map[int][]int{
+		0: {0, 3, 2, 4, 1, 6, 5}, 12: {12, 7, 10}, 13: {13, 9, 8}, 14: {14}, 11: {11, 15, 16, 17}, 18: {18, 19}, 21: {21, 22}, 23: {23}, 24: {24, 25}, 26: {26},
+	} {
+		for _, at := range tree {
+			if root := walk.Root(f.Nodes, at); root != n {
+				t.Errorf("Root of %d is %d, not %d", at, root, n)
+			}
+		}
+	}
+}
+
 // Without shadows there come fewer.
 func TestTree(t *testing.T) {
 	f := sample.Grove()
