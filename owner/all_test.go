@@ -14,21 +14,9 @@ import (
 	"instar/shade"
 )
 
-// forests are right ones and wrong ones, and bureaus.
-func forests() map[string]api.Forest {
-	all := sample.Right()
-	for what, f := range sample.Wrong() {
-		all[what] = f
-	}
-	for seed := range 300 {
-		all["bureau "+strconv.Itoa(seed)] = sample.Bureau(seed)
-	}
-	return all
-}
-
 // P13.1, P13.2: all kinds of forests, against the chapter's words; they stay as they are.
 func TestWords(t *testing.T) {
-	for what, f := range forests() {
+	for what, f := range sample.Papers() {
 		if !sample.Untouched(f, func(f api.Forest) {
 			if l := owner.All(f); !slices.Equal(l, allByWords(f)) {
 				t.Errorf("%s: All is %v, not %v", what, l, allByWords(f))
@@ -114,7 +102,7 @@ func TestTakenOut(t *testing.T) {
 
 // P13.1, P13.2: an answer is the caller's own: who changes it changes no other one, nor what was handed in.
 func TestOwn(t *testing.T) {
-	f := rooted(t, `<form id="f"><i></i><b form="f"></b></form>`)
+	f := sample.Rooted(`<form id="f"><i></i><b form="f"></b></form>`)
 	for range 2 {
 		all, members := owner.All(f), owner.Members(f, 1)
 		if !slices.Equal(all, []int{-1, -1, 1, 1}) || !slices.Equal(members, []int{2, 3}) {
@@ -126,7 +114,7 @@ func TestOwn(t *testing.T) {
 			}
 		}
 	}
-	if !sample.Same(f, rooted(t, `<form id="f"><i></i><b form="f"></b></form>`)) {
+	if !sample.Same(f, sample.Rooted(`<form id="f"><i></i><b form="f"></b></form>`)) {
 		t.Error("what was handed in has changed")
 	}
 }

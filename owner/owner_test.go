@@ -5,31 +5,9 @@ import (
 	"testing"
 
 	"instar/api"
-	"instar/move"
 	"instar/owner"
-	"instar/print"
 	"instar/sample"
 )
-
-// loose answers a forest in which s stands by itself: its nodes begin with 1, behind a Doc.
-func loose(t *testing.T, s string) api.Forest {
-	t.Helper()
-	f, n, err := print.Fresh(s, 40)
-	if err != api.OK || n != 1 {
-		t.Fatalf("%s: no such forest: %d", s, err)
-	}
-	return f
-}
-
-// rooted answers a forest in which s stands in the Doc.
-func rooted(t *testing.T, s string) api.Forest {
-	t.Helper()
-	f, _, err := move.Insert(loose(t, s), 1, 0, api.None)
-	if err != api.OK {
-		t.Fatalf("%s: may not stand in a Doc: %d", s, err)
-	}
-	return f
-}
 
 // check asks for the owners of f, whose owners these are, from the node 1 on, and for the members.
 func check(t *testing.T, what string, f api.Forest, want ...int) {
@@ -51,9 +29,9 @@ func check(t *testing.T, what string, f api.Forest, want ...int) {
 // P13.1: the chapter's example: below, and elsewhere, if that is connected.
 func TestExample(t *testing.T) {
 	s := `<div><form id="f"><p><input></input></p></form><input form="f"></input></div>`
-	check(t, "connected", rooted(t, s), -1, -1, 2, 2, 2)
-	check(t, "loose", loose(t, s), -1, -1, 2, 2, -1)
-	if l := owner.Members(rooted(t, s), 2); !slices.Equal(l, []int{3, 4, 5}) {
+	check(t, "connected", sample.Rooted(s), -1, -1, 2, 2, 2)
+	check(t, "loose", sample.Loose(s), -1, -1, 2, 2, -1)
+	if l := owner.Members(sample.Rooted(s), 2); !slices.Equal(l, []int{3, 4, 5}) {
 		t.Error(l)
 	}
 }
@@ -74,19 +52,19 @@ func TestNearest(t *testing.T) {
 		`<form id="f"><i id="f"></i></form>`:                                  {-1, 1},
 		`<form title="f"><i title="f"></i></form>`:                            {-1, 1},
 	} {
-		check(t, s, loose(t, s), want...)
-		check(t, s+", connected", rooted(t, s), want...)
+		check(t, s, sample.Loose(s), want...)
+		check(t, s+", connected", sample.Rooted(s), want...)
 	}
-	check(t, "a Frag", loose(t, `[<form><i></i></form><b></b>]`), -1, -1, 2, -1)
+	check(t, "a Frag", sample.Loose(`[<form><i></i></form><b></b>]`), -1, -1, 2, -1)
 }
 
 // P13.1: a Text, and whatever else is no Elem, has no owner.
 func TestNoElem(t *testing.T) {
 	s := `<form>"a"<p>"b"</p><x-a>{"c"<i></i>}"d"</x-a></form>`
-	check(t, s, rooted(t, s), -1, -1, 1, -1, 1, -1, -1, -1, -1)
-	check(t, s, loose(t, s), -1, -1, 1, -1, 1, -1, -1, -1, -1)
-	check(t, "a Text alone", loose(t, `"form"`), -1)
-	check(t, "an empty Frag", loose(t, `[]`), -1)
+	check(t, s, sample.Rooted(s), -1, -1, 1, -1, 1, -1, -1, -1, -1)
+	check(t, s, sample.Loose(s), -1, -1, 1, -1, 1, -1, -1, -1, -1)
+	check(t, "a Text alone", sample.Loose(`"form"`), -1)
+	check(t, "an empty Frag", sample.Loose(`[]`), -1)
 }
 
 // P13.1: nobody is owned from outside of a shadow, neither as a child nor by an id, nor into one.
@@ -101,11 +79,11 @@ func TestShadows(t *testing.T) {
 		`<form id="f">{<i form="f"></i>}</form>`:                                          {-1, -1, -1},
 		`<x-a>{<x-b>{<form id="f"></form><i form="f"></i>}<i form="f"></i></x-b>}</x-a>`:  {-1, -1, -1, -1, -1, 5, -1},
 	} {
-		check(t, s, rooted(t, s), want...)
+		check(t, s, sample.Rooted(s), want...)
 	}
 	s := `<p><x-a>{<form id="f"></form><form><i form="f"></i></form>}</x-a></p>`
-	check(t, s, loose(t, s), -1, -1, -1, -1, -1, 5)
-	check(t, s+", connected", rooted(t, s), -1, -1, -1, -1, -1, 4)
+	check(t, s, sample.Loose(s), -1, -1, -1, -1, -1, 5)
+	check(t, s+", connected", sample.Rooted(s), -1, -1, -1, -1, -1, 4)
 }
 
 // P13.1: by an id the first in tree order is chosen, from the Root on; who chose has no other owner, even
@@ -137,7 +115,7 @@ func TestChosen(t *testing.T) {
 		`<p><form title="t" id="f"></form><i title="t" disabled="" form="f"></i></p>`:                                             {-1, -1, 2},
 		`<p><form id="\"\\"></form><i form="\"\\"></i><form id="` + "\xff\x00" + `"></form><i form="` + "\xff\x00" + `"></i></p>`: {-1, -1, 2, -1, 4},
 	} {
-		check(t, s, rooted(t, s), want...)
+		check(t, s, sample.Rooted(s), want...)
 	}
 }
 
@@ -151,7 +129,7 @@ func TestLoose(t *testing.T) {
 		`<form id="f" form="f"><i></i></form>`:                             {-1, 1},
 		`[<x-a>{<form id="f"></form><form><i form="f"></i></form>}</x-a>]`: {-1, -1, -1, -1, -1, 5},
 	} {
-		check(t, s, loose(t, s), want...)
+		check(t, s, sample.Loose(s), want...)
 	}
 }
 
@@ -196,7 +174,7 @@ func TestTreeOrder(t *testing.T) {
 // P13.2: whoever owns itself is its own member; so is a form of another one; and below a form stand others' members.
 func TestMembers(t *testing.T) {
 	s := `<div><i form="f"></i><form id="f" form="f"><b></b><form id="g"><u form="f"></u><i></i></form><p>"t"</p><b form="g"></b></form><u form="g"></u></div>`
-	f := rooted(t, s)
+	f := sample.Rooted(s)
 	for x, want := range map[int][]int{3: {2, 3, 4, 5, 6, 8}, 5: {7, 10, 11}} {
 		if l := owner.Members(f, x); !slices.Equal(l, want) {
 			t.Errorf("Members(%d) = %v, not %v", x, l, want)
@@ -207,7 +185,7 @@ func TestMembers(t *testing.T) {
 			t.Errorf("Members(%d) = %v", x, l)
 		}
 	}
-	if l := owner.Members(rooted(t, `<form></form>`), 1); len(l) != 0 {
+	if l := owner.Members(sample.Rooted(`<form></form>`), 1); len(l) != 0 {
 		t.Errorf("an empty form has %v", l)
 	}
 }
@@ -215,7 +193,7 @@ func TestMembers(t *testing.T) {
 // P13.1, P13.2: of a number without a node nothing is told.
 func TestWrongNumbers(t *testing.T) {
 	all := sample.Right()
-	all["a form"] = rooted(t, `<form id="f"><i></i><b form="f"></b></form>`)
+	all["a form"] = sample.Rooted(`<form id="f"><i></i><b form="f"></b></form>`)
 	for what, f := range all {
 		for _, n := range sample.WrongNumbers(f) {
 			if at, l := owner.Of(f, n), owner.Members(f, n); at != api.None || len(l) != 0 {
@@ -236,7 +214,7 @@ func TestWrongForests(t *testing.T) {
 		"a Text named form": func(f *api.Forest) { f.Nodes[4].Name = "form" },
 		"a form in its own": func(f *api.Forest) { sample.Cut(*f, 1); sample.Hang(*f, 1, 1) },
 	} {
-		f := rooted(t, `<form id="f"><i></i><b form="f"></b>"t"</form>`)
+		f := sample.Rooted(`<form id="f"><i></i><b form="f"></b>"t"</form>`)
 		spoil(&f)
 		all[what] = f
 	}

@@ -7,6 +7,7 @@ import (
 
 	"instar/api"
 	"instar/forest"
+	"instar/print"
 	"instar/sample"
 	"instar/shade"
 )
@@ -141,6 +142,44 @@ func TestBureaus(t *testing.T) {
 	}
 	if elems < 2500 || connected < elems/2 {
 		t.Errorf("of %d elements %d are connected", elems, connected)
+	}
+}
+
+// What a text tells is the node 1 of a right forest, with room left, by itself or in the Doc.
+func TestTexts(t *testing.T) {
+	for _, s := range []string{`<p a="1"><b></b>"t"</p>`, `<x-a>{<i></i>}</x-a>`} {
+		f, g := sample.Loose(s), sample.Rooted(s)
+		if !forest.Right(f) || !forest.Right(g) || f.Nodes[1].Parent != api.None || g.Nodes[1].Parent != 0 || g.Most == len(g.Nodes) {
+			t.Errorf("%s: not the forests that were meant: %v, %v", s, f, g)
+		}
+		if text, err := print.Put(g, 1); text != s || err != api.OK {
+			t.Errorf("%s: told %s", s, text)
+		}
+		sample.Cut(g, 1)
+		if !sample.Same(f, g) {
+			t.Errorf("%s: loose it is another one", s)
+		}
+	}
+	if f := sample.Loose(`["t"]`); !forest.Right(f) || f.Nodes[1].Kind != api.Frag {
+		t.Errorf("not the Frag that was meant: %v", f)
+	}
+}
+
+// Papers are right forests, wrong ones and bureaus, all of them.
+func TestPapers(t *testing.T) {
+	right, wrong := len(sample.Right())+300, len(sample.Wrong())
+	for what, f := range sample.Papers() {
+		if forest.Right(f) {
+			right--
+		} else {
+			wrong--
+		}
+		if _, named := sample.Wrong()[what]; named == forest.Right(f) {
+			t.Errorf("%s is right: %t", what, named)
+		}
+	}
+	if right != 0 || wrong != 0 {
+		t.Errorf("right ones lack %d, wrong ones %d", right, wrong)
 	}
 }
 
@@ -283,6 +322,10 @@ func TestPanics(t *testing.T) {
 		"no room":        func() { sample.Forest(1, sample.Elem("p")) },
 		"no name":        func() { sample.Forest(9, sample.Elem("P")) },
 		"no document":    func() { sample.Forest(9, sample.Of(1, sample.Text(""))) },
+		"no text":        func() { sample.Loose(`<p>`) },
+		"no text either": func() { sample.Rooted(`<p>`) },
+		"a Doc's Text":   func() { sample.Rooted(`"t"`) },
+		"a Doc's Frag":   func() { sample.Rooted(`[]`) },
 	} {
 		func() {
 			defer func() {
