@@ -59,6 +59,20 @@ func Guild(seed int) []api.Class {
 	return l
 }
 
+// Crew answers three or four classes that chance has put together, the same ones for each seed: most are for forms,
+// and each hears of some of what befalls elements of forms, of some of it twice.
+func Crew(seed int) []api.Class {
+	c := chance(seed)
+	l := make([]api.Class, 3+c.below(2))
+	for i := range l {
+		l[i].Form = c.below(4) > 0
+		for range c.below(6) {
+			l[i].Hooks = append(l[i].Hooks, Hook(api.Owned+c.below(4), 1+c.below(20), c.below(3)))
+		}
+	}
+	return l
+}
+
 // SameClasses tells whether two lists of classes are the same.
 func SameClasses(a, b []api.Class) bool { return slices.EqualFunc(a, b, SameClass) }
 

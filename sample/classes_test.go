@@ -67,6 +67,43 @@ func TestGuilds(t *testing.T) {
 	}
 }
 
+// Crews are the same for each seed, and others for others; most of their classes are for forms, some hear of a kind
+// twice, or of nothing, all of no other kinds than those that are told to elements of forms.
+func TestCrews(t *testing.T) {
+	found := map[string]int{}
+	for seed := range 100 {
+		l := sample.Crew(seed)
+		if len(l) < 3 || len(l) > 4 || !sample.SameClasses(l, sample.Crew(seed)) {
+			t.Errorf("not the crew %d, or another one when asked for again", seed)
+		}
+		for _, c := range l {
+			hears := make([]int, 9)
+			for _, h := range c.Hooks {
+				hears[h.Kind]++
+			}
+			for what, so := range map[string]bool{
+				"for forms": c.Form, "not for forms": !c.Form, "hears nothing": len(c.Hooks) == 0, "hears twice": slices.Max(hears) > 1,
+				"5": hears[5] > 0, "6": hears[6] > 0, "7": hears[7] > 0, "8": hears[8] > 0, "four": len(l) == 4, "three": len(l) == 3,
+			} {
+				if so {
+					found[what]++
+				}
+			}
+			if slices.Max(hears[:5]) > 0 {
+				t.Errorf("%d: hears of others: %v", seed, c.Hooks)
+			}
+		}
+	}
+	if len(found) != 10 || found["for forms"] < 2*found["not for forms"] {
+		t.Errorf("not the classes that were meant: %v", found)
+	}
+	for what, times := range found {
+		if times < 30 {
+			t.Errorf("seldom there: %s", what)
+		}
+	}
+}
+
 // heldClassChanges are ways to change classes, in what their lists have.
 func heldClassChanges() []func(l []api.Class) {
 	return []func(l []api.Class){

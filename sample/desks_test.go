@@ -37,6 +37,9 @@ func TestDesks(t *testing.T) {
 	if d := sample.Manned(); len(d.Defs) != 12 || len(d.Waits) != 100000 || d.Next != 100000 {
 		t.Error("not the desk that was meant")
 	}
+	if d := sample.Named(); !desk.Right(d) || len(d.Defs) != 5 || desk.Find(d, "x-e", "") != 4 || desk.Classed(d, 2) != 2 {
+		t.Errorf("not the desk that was meant: %v", d)
+	}
 }
 
 // Offices are right, the same for each seed, and have each definition somewhere, at each place.

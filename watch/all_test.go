@@ -14,35 +14,20 @@ import (
 // scenes are all that is asked with: forests and desks, right and wrong, each with states and classes.
 func scenes() map[string]asked {
 	all := map[string]asked{}
+	for what, s := range sample.Scenes() {
+		all[what] = ask(s)
+	}
 	for seed := range 400 {
-		f := sample.Dressed(seed)
-		all["dressed "+strconv.Itoa(seed)] = ask(f, sample.Moods(f, seed), sample.Office(seed), sample.Guild(seed))
-	}
-	for seed, forests := range []map[string]api.Forest{sample.Right(), sample.Wrong()} {
-		for what, f := range forests {
-			all[what] = ask(f, sample.Moods(f, seed), sample.Desk(), sample.Classes())
-		}
-	}
-	for seed, desks := range []map[string]api.Desk{sample.RightDesks(), sample.WrongDesks()} {
-		for what, d := range desks {
-			all["desk: "+what] = ask(sample.Clan(), sample.Moods(sample.Clan(), seed), d, sample.Classes())
-		}
+		all["party "+strconv.Itoa(seed)] = ask(sample.Party(seed))
 	}
 	return all
 }
 
-// with changes a copy of what is asked with, and answers that.
-func (a asked) with(change func(a *asked)) asked {
-	a.f, a.states, a.d, a.classes = sample.Copy(a.f), slices.Clone(a.states), sample.CopyDesk(a.d), sample.CopyClasses(a.classes)
-	change(&a)
-	return ask(a.f, a.states, a.d, a.classes)
-}
-
 // due and first ask the program.
 func (a asked) due(notes []api.Note) []api.Due {
-	return watch.Due(a.f, a.states, a.d, a.classes, notes)
+	return watch.Due(a.Forest, a.States, a.Desk, a.Classes, notes)
 }
-func (a asked) first(n int) []api.Due { return watch.First(a.f, a.states, a.d, a.classes, n) }
+func (a asked) first(n int) []api.Due { return watch.First(a.Forest, a.States, a.Desk, a.Classes, n) }
 
 // numbers are those of some nodes of f, and of none.
 func numbers(f api.Forest) []int {
@@ -54,10 +39,10 @@ func TestWords(t *testing.T) {
 	told, kinds := 0, map[int]int{}
 	for what, a := range scenes() {
 		for seed := range 3 {
-			if len(a.f.Nodes) == 0 {
+			if len(a.Forest.Nodes) == 0 {
 				break
 			}
-			notes := sample.Gossip(a.f, seed, 400)
+			notes := sample.Gossip(a.Forest, seed, 400)
 			want := a.dueByWords(notes)
 			if got := a.due(notes); !slices.Equal(got, want) {
 				t.Errorf("%s: %d notes ask for %.500v, not for %.500v", what, len(notes), got, want)
@@ -66,7 +51,7 @@ func TestWords(t *testing.T) {
 				kinds[due.Todo.Kind]++
 			}
 		}
-		for _, n := range numbers(a.f) {
+		for _, n := range numbers(a.Forest) {
 			want := a.firstByWords(n)
 			if got := a.first(n); !slices.Equal(got, want) {
 				t.Errorf("%s: of %d, at first %v, not %v", what, n, got, want)
@@ -115,11 +100,11 @@ func TestClassWords(t *testing.T) {
 func TestWho(t *testing.T) {
 	upgrades, calls := 0, 0
 	for what, a := range scenes() {
-		if len(a.f.Nodes) == 0 {
+		if len(a.Forest.Nodes) == 0 {
 			continue
 		}
-		for _, due := range a.due(sample.Gossip(a.f, 7, 400)) {
-			phase, kind := a.states[due.Node].Phase, due.Todo.Kind
+		for _, due := range a.due(sample.Gossip(a.Forest, 7, 400)) {
+			phase, kind := a.States[due.Node].Phase, due.Todo.Kind
 			switch {
 			case phase == api.Open && kind == api.Upgrade:
 				upgrades++
@@ -138,9 +123,8 @@ func TestWho(t *testing.T) {
 // P12.2: each note is for itself: of notes one behind the other is asked for what each by itself asks for.
 func TestEach(t *testing.T) {
 	for seed := range 50 {
-		f := sample.Dressed(seed)
-		a := ask(f, sample.Moods(f, seed), sample.Office(seed), sample.Guild(seed))
-		notes := sample.Gossip(f, seed, 60)
+		a := ask(sample.Party(seed))
+		notes := sample.Gossip(a.Forest, seed, 60)
 		var each []api.Due
 		for _, note := range notes {
 			each = append(each, a.due([]api.Note{note})...)
@@ -154,19 +138,18 @@ func TestEach(t *testing.T) {
 // P12.2, P12.3: who else is in which state, what isn't told of, and who waits, changes nothing.
 func TestOthers(t *testing.T) {
 	for seed := range 100 {
-		f := sample.Dressed(seed)
-		a := ask(f, sample.Moods(f, seed), sample.Office(seed), sample.Guild(seed))
-		for n := range f.Nodes {
-			notes := slices.DeleteFunc(sample.Gossip(f, seed, 300), func(note api.Note) bool { return note.Node != n })
-			other := a.with(func(b *asked) {
-				b.states = sample.Moods(f, seed+1)
-				b.states[n] = a.states[n]
-				b.states[n].Owner, b.states[n].Barred = 77, !b.states[n].Barred
-				b.d.Waits, b.d.Next, b.d.Busy = nil, 99, !b.d.Busy
-				for i := range b.classes {
-					b.classes[i].Form, b.classes[i].Make = !b.classes[i].Form, sample.Ops(1, 3)
+		a := ask(sample.Party(seed))
+		for n := range a.Forest.Nodes {
+			notes := slices.DeleteFunc(sample.Gossip(a.Forest, seed, 300), func(note api.Note) bool { return note.Node != n })
+			other := ask(a.With(func(s *sample.Scene) {
+				s.States = sample.Moods(a.Forest, seed+1)
+				s.States[n] = a.States[n]
+				s.States[n].Owner, s.States[n].Barred = 77, !s.States[n].Barred
+				s.Desk.Waits, s.Desk.Next, s.Desk.Busy = nil, 99, !s.Desk.Busy
+				for i := range s.Classes {
+					s.Classes[i].Form, s.Classes[i].Make = !s.Classes[i].Form, sample.Ops(1, 3)
 				}
-			})
+			}))
 			if got, want := other.due(notes), a.due(notes); !slices.Equal(got, want) {
 				t.Errorf("%d: of %d: %v, not %v", seed, n, got, want)
 			}
@@ -177,42 +160,27 @@ func TestOthers(t *testing.T) {
 	}
 }
 
-// checkCareful checks that Due and First leave all that they are given as it is.
-func checkCareful(t *testing.T, what string, a asked, notes []api.Note) {
-	t.Helper()
-	call := func(a asked) {
-		for _, l := range [][]api.Due{a.due(notes), a.first(1), a.first(2)} {
-			for i := range l[:cap(l)] {
-				l[:cap(l)][i] = api.Due{Node: 77}
-			}
-		}
-	}
-	if !sample.Untouched(a.f, func(f api.Forest) { b := a; b.f = f; call(b) }) {
-		t.Errorf("%s: changed the forest", what)
-	}
-	if !sample.Kept(a.states, func(l []api.State) { b := a; b.states = l; call(b) }) {
-		t.Errorf("%s: changed the states", what)
-	}
-	if !sample.Kept(notes, func(l []api.Note) { a.due(l) }) {
-		t.Errorf("%s: changed the notes", what)
-	}
-	if _, careful := sample.AskDesk(a.d, func(d api.Desk) api.Desk { b := a; b.d = d; call(b); return api.Desk{} }); !careful {
-		t.Errorf("%s: changed the desk", what)
-	}
-	if _, _, fault := sample.AskClasses(a.classes, func(l []api.Class) ([]api.Class, []api.Op) { b := a; b.classes = l; call(b); return nil, nil }); fault != "" {
-		t.Errorf("%s: changed the classes", what)
-	}
-}
-
 // P12.2, P12.3: what is handed in stays as it is, whatever it is, and an answer is the caller's own.
 func TestCareful(t *testing.T) {
 	for what, a := range scenes() {
-		if len(a.d.Waits) < 10 && len(a.f.Nodes) > 0 {
-			checkCareful(t, what, a, sample.Gossip(a.f, 5, 100))
+		if len(a.Desk.Waits) >= 10 || len(a.Forest.Nodes) == 0 {
+			continue
+		}
+		notes := sample.Gossip(a.Forest, 5, 100)
+		if touched := a.Touched(func(s sample.Scene) {
+			b := ask(s)
+			for _, l := range [][]api.Due{b.due(notes), b.first(1), b.first(2)} {
+				clear(l[:cap(l)])
+			}
+		}); touched != "" {
+			t.Errorf("%s: changed %s", what, touched)
+		}
+		if !sample.Kept(notes, func(l []api.Note) { a.due(l) }) {
+			t.Errorf("%s: changed the notes", what)
 		}
 	}
 	f := sample.Clan()
-	a := ask(f, sample.States(len(f.Nodes), sample.State(api.Custom, 2)), named(), sample.Classes())
+	a := ask(sample.Scene{Forest: f, States: sample.States(len(f.Nodes), sample.State(api.Custom, 2)), Desk: sample.Named(), Classes: sample.Classes()})
 	notes := sample.Gossip(f, 3, 300)
 	one, want := a.due(notes), a.dueByWords(notes)
 	clear(one[:cap(one)])
@@ -224,7 +192,7 @@ func TestCareful(t *testing.T) {
 // P12.1: a class, and a program, are the caller's own: who changes them changes neither what was handed in, nor
 // another answer; where programs of what was handed in share memory, those of an answer don't.
 func TestOwnClass(t *testing.T) {
-	d := named()
+	d := sample.Named()
 	for seed := range 50 {
 		for i, guild := range [][]api.Class{sample.Classes(), sample.Guild(seed)} {
 			for def := -1; def <= 5; def++ {
@@ -303,7 +271,7 @@ func TestFirstMany(t *testing.T) {
 		want = append(want, api.Due{Node: 1, Todo: api.Todo{Kind: api.Changed, Name: s, Has: true, New: strconv.Itoa(i)}})
 	}
 	f := sample.Forest(9, e)
-	if got := watch.First(f, sample.States(2, sample.State(api.Half, 0)), named(), []api.Class{c}, 1); !slices.Equal(got, want) {
+	if got := watch.First(f, sample.States(2, sample.State(api.Half, 0)), sample.Named(), []api.Class{c}, 1); !slices.Equal(got, want) {
 		t.Errorf("%v, not %v", got, want)
 	}
 }

@@ -137,19 +137,10 @@ func done(kind int, name string) api.Todo {
 	return api.Todo{Kind: kind, Name: name, Had: true, Has: true, Old: "o", New: "n", From: 7, To: 8}
 }
 
-// named is a desk whose definition at each place is for x-a, x-b and so on, by the class at that place.
-func named() api.Desk {
-	var d api.Desk
-	for class, s := range []string{"x-a", "x-b", "x-c", "x-d", "x-e"} {
-		d.Defs = append(d.Defs, api.Def{Name: s, Local: s, Class: class})
-	}
-	return d
-}
-
 // P12.2, P12.4: who is Custom is called for what its class hears of, with all that the note tells; who is in
 // another phase isn't.
 func TestDueCalls(t *testing.T) {
-	f, d := sample.Forest(9, sample.Elem("b")), named()
+	f, d := sample.Forest(9, sample.Elem("b")), sample.Named()
 	for class, c := range sample.Classes() {
 		for _, kind := range kinds() {
 			for _, s := range []string{"", "a", "b", "title", "A"} {
@@ -171,7 +162,7 @@ func TestDueCalls(t *testing.T) {
 
 // P12.2: each field of a note is told by itself, as it is: what isn't there isn't told.
 func TestDueFields(t *testing.T) {
-	f, d := sample.Forest(9, sample.Elem("b")), named()
+	f, d := sample.Forest(9, sample.Elem("b")), sample.Named()
 	for kind := api.Came; kind <= api.Changed; kind++ {
 		for i, note := range []api.Note{{Name: "a"}, {Had: true}, {Has: true}, {Old: "\xff"}, {New: "\x00"}, {From: -1}, {To: sample.Greatest}, {}} {
 			note.Kind, note.Node = kind, 1
@@ -211,7 +202,7 @@ func TestDueUpgrades(t *testing.T) {
 // P12.2: notes are gone through in order, each for itself, however often one node is told of; each node by its
 // own state.
 func TestDueOrder(t *testing.T) {
-	f, d := sample.Forest(9, sample.Elem("x-a"), sample.Elem("x-b"), sample.Text("t"), sample.Elem("x-c")), named()
+	f, d := sample.Forest(9, sample.Elem("x-a"), sample.Elem("x-b"), sample.Text("t"), sample.Elem("x-c")), sample.Named()
 	states := []api.State{sample.State(api.Plain, -1), sample.State(api.Custom, 0), sample.State(api.Open, 4), sample.State(api.Custom, 2), sample.State(api.Custom, 2)}
 	notes := []api.Note{
 		all(api.Came, 4, ""), all(api.Came, 2, ""), all(api.Came, 1, ""), all(api.Went, 1, ""), all(api.Changed, 1, "b"), all(api.Came, 2, ""),
@@ -242,24 +233,24 @@ func TestFirst(t *testing.T) {
 	for class, want := range [][]api.Due{{a, b}, {}, {title, a}, {}, {}} {
 		for phase := -1; phase <= 5; phase++ {
 			states := sample.States(2, api.State{Phase: phase, Def: class, Owner: 3, Barred: true})
-			if got := watch.First(alone, states, named(), sample.Classes(), 1); !slices.Equal(got, want) {
+			if got := watch.First(alone, states, sample.Named(), sample.Classes(), 1); !slices.Equal(got, want) {
 				t.Errorf("class %d, alone: %v, not %v", class, got, want)
 			}
 			here := slices.Clone(want)
 			if class < 3 {
 				here = append(here, api.Due{Node: 1, Todo: api.Todo{Kind: api.Came}})
 			}
-			if got := watch.First(there, states, named(), sample.Classes(), 1); !slices.Equal(got, here) {
+			if got := watch.First(there, states, sample.Named(), sample.Classes(), 1); !slices.Equal(got, here) {
 				t.Errorf("class %d, connected: %v, not %v", class, got, here)
 			}
 		}
 	}
 	for _, def := range []int{api.None, -2, 5, sample.Least, sample.Greatest} {
-		if got := watch.First(there, sample.States(2, sample.State(api.Half, def)), named(), sample.Classes(), 1); len(got) != 0 {
+		if got := watch.First(there, sample.States(2, sample.State(api.Half, def)), sample.Named(), sample.Classes(), 1); len(got) != 0 {
 			t.Errorf("of no definition, %d: %v", def, got)
 		}
 	}
-	if got := watch.First(there, sample.States(2, sample.State(api.Half, 2)), named(), sample.Classes()[:2], 1); len(got) != 0 {
+	if got := watch.First(there, sample.States(2, sample.State(api.Half, 2)), sample.Named(), sample.Classes()[:2], 1); len(got) != 0 {
 		t.Errorf("of no class: %v", got)
 	}
 }
@@ -274,7 +265,7 @@ func TestFirstConnected(t *testing.T) {
 		if e.Kind == api.Elem && connected {
 			want = []api.Due{{Node: n, Todo: api.Todo{Kind: api.Came}}}
 		}
-		if got := watch.First(f, states, named(), sample.Classes(), n); !slices.Equal(got, want) {
+		if got := watch.First(f, states, sample.Named(), sample.Classes(), n); !slices.Equal(got, want) {
 			t.Errorf("of %d: %v, not %v", n, got, want)
 		}
 	}
@@ -299,22 +290,22 @@ func checkNothing(t *testing.T, what string, f api.Forest, states []api.State, d
 func TestNothing(t *testing.T) {
 	custom, open := sample.State(api.Custom, 2), sample.State(api.Open, 2)
 	for what, f := range sample.Right() {
-		checkNothing(t, what, f, sample.States(len(f.Nodes), custom), named(), sample.WrongNumbers(f)...)
-		checkNothing(t, what, f, sample.States(len(f.Nodes), open), named(), sample.WrongNumbers(f)...)
+		checkNothing(t, what, f, sample.States(len(f.Nodes), custom), sample.Named(), sample.WrongNumbers(f)...)
+		checkNothing(t, what, f, sample.States(len(f.Nodes), open), sample.Named(), sample.WrongNumbers(f)...)
 		for n, e := range f.Nodes[:min(len(f.Nodes), 30)] {
 			if e.Kind != api.Elem {
-				checkNothing(t, what, f, sample.States(len(f.Nodes), custom), named(), n)
+				checkNothing(t, what, f, sample.States(len(f.Nodes), custom), sample.Named(), n)
 			}
 			for _, count := range []int{0, len(f.Nodes) - 1, len(f.Nodes) + 1} {
-				checkNothing(t, what+", "+strconv.Itoa(count)+" states", f, sample.States(count, custom), named(), n)
-				checkNothing(t, what+", "+strconv.Itoa(count)+" states", f, sample.States(count, open), named(), n)
+				checkNothing(t, what+", "+strconv.Itoa(count)+" states", f, sample.States(count, custom), sample.Named(), n)
+				checkNothing(t, what+", "+strconv.Itoa(count)+" states", f, sample.States(count, open), sample.Named(), n)
 			}
 		}
 	}
 	for what, f := range sample.Wrong() {
 		for n := -1; n <= len(f.Nodes); n++ {
-			checkNothing(t, what, f, sample.States(len(f.Nodes), custom), named(), n)
-			checkNothing(t, what, f, sample.States(len(f.Nodes), open), named(), n)
+			checkNothing(t, what, f, sample.States(len(f.Nodes), custom), sample.Named(), n)
+			checkNothing(t, what, f, sample.States(len(f.Nodes), open), sample.Named(), n)
 		}
 	}
 }
@@ -344,7 +335,7 @@ func TestExample(t *testing.T) {
 	f, states := sample.Forest(9, sample.Elem("x-a")), sample.States(2, sample.State(api.Custom, 0))
 	notes := []api.Note{{Kind: api.Changed, Node: 1, Name: "b", Has: true, New: "2"}, {Kind: api.Changed, Node: 1, Name: "a", Has: true, New: "1"}}
 	want := []api.Due{{Node: 1, Todo: api.Todo{Kind: api.Changed, Name: "a", Has: true, New: "1"}}}
-	if l := watch.Due(f, states, named(), []api.Class{c}, notes); !slices.Equal(l, want) || !watch.Watches(c, "a") || watch.Watches(c, "b") {
+	if l := watch.Due(f, states, sample.Named(), []api.Class{c}, notes); !slices.Equal(l, want) || !watch.Watches(c, "a") || watch.Watches(c, "b") {
 		t.Errorf("told of %v, not of %v", l, want)
 	}
 }

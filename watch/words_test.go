@@ -2,9 +2,8 @@ package watch_test
 
 import (
 	"instar/api"
-	"instar/desk"
-	"instar/forest"
 	"instar/heir"
+	"instar/sample"
 	"instar/shade"
 )
 
@@ -51,31 +50,26 @@ func classByWords(s api.State, d api.Desk, classes []api.Class) (api.Class, bool
 
 // asked is all that is asked with, and whether it is right.
 type asked struct {
-	f       api.Forest
-	states  []api.State
-	d       api.Desk
-	classes []api.Class
-	right   bool
+	sample.Scene
+	right bool
 }
 
-func ask(f api.Forest, states []api.State, d api.Desk, classes []api.Class) asked {
-	return asked{f, states, d, classes, forest.Right(f) && desk.Right(d) && len(states) == len(f.Nodes)}
-}
+func ask(s sample.Scene) asked { return asked{s, s.Right()} }
 
 func (a asked) elemByWords(n int) bool {
-	return a.right && n >= 0 && n < len(a.f.Nodes) && a.f.Nodes[n].Kind == api.Elem
+	return a.right && n >= 0 && n < len(a.Forest.Nodes) && a.Forest.Nodes[n].Kind == api.Elem
 }
 
 func (a asked) noteByWords(note api.Note) (api.Due, bool) {
 	if !a.elemByWords(note.Node) {
 		return api.Due{}, false
 	}
-	s := a.states[note.Node]
+	s := a.States[note.Node]
 	if s.Phase == 1 && note.Kind == 1 {
-		fate := heir.Fate(a.f, note.Node, a.d)
+		fate := heir.Fate(a.Forest, note.Node, a.Desk)
 		return api.Due{Node: note.Node, Todo: api.Todo{Kind: 9, Def: fate}}, fate != -1
 	}
-	c, has := classByWords(s, a.d, a.classes)
+	c, has := classByWords(s, a.Desk, a.Classes)
 	if s.Phase != 3 || !has {
 		return api.Due{}, false
 	}
@@ -103,19 +97,19 @@ func (a asked) firstByWords(n int) []api.Due {
 	if !a.elemByWords(n) {
 		return nil
 	}
-	c, has := classByWords(a.states[n], a.d, a.classes)
+	c, has := classByWords(a.States[n], a.Desk, a.Classes)
 	if !has {
 		return nil
 	}
 	var l []api.Due
-	for _, x := range a.f.Nodes[n].Attrs {
+	for _, x := range a.Forest.Nodes[n].Attrs {
 		if watchesByWords(c, x.Name) {
 			todo := api.Todo{Kind: 4, Has: true}
 			todo.Name, todo.New = x.Name, x.Value
 			l = append(l, api.Due{Node: n, Todo: todo})
 		}
 	}
-	if shade.Connected(a.f, n) && hearsByWords(c, 1) {
+	if shade.Connected(a.Forest, n) && hearsByWords(c, 1) {
 		l = append(l, api.Due{Node: n, Todo: api.Todo{Kind: 1}})
 	}
 	return l
