@@ -6,6 +6,7 @@ import (
 	"instar/api"
 	"instar/change"
 	"instar/forest"
+	"instar/quote"
 )
 
 // read answers f with what s tells.
@@ -118,24 +119,9 @@ func (r *reader) word() string {
 
 // quoted reads a quoted text, and answers what was quoted.
 func (r *reader) quoted() (string, bool) {
-	if !r.skip(`"`) {
-		return "", false
-	}
-	var s strings.Builder
-	for i := 0; i < len(r.rest); i++ {
-		if r.rest[i] == '"' {
-			r.rest = r.rest[i+1:]
-			return s.String(), true
-		}
-		if r.rest[i] == '\\' {
-			i++
-			if i == len(r.rest) || r.rest[i] != '"' && r.rest[i] != '\\' {
-				return "", false
-			}
-		}
-		s.WriteByte(r.rest[i])
-	}
-	return "", false
+	s, rest, ok := quote.Cut(r.rest)
+	r.rest = rest
+	return s, ok
 }
 
 // skip passes over what stands next, if it is this, and tells whether it was.
