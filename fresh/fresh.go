@@ -28,6 +28,23 @@ func Line(l api.Line) api.Line {
 	return api.Line{Todos: lists(l.Todos), Stack: lists(l.Stack), Back: slices.Clone(l.Back), Busy: l.Busy}
 }
 
+// World answers w in memory of its own.
+func World(w api.World) api.World {
+	return api.World{
+		Forest: Forest(w.Forest), States: slices.Clone(w.States), Desk: Desk(w.Desk), Line: Line(w.Line),
+		Tasks: slices.Clone(w.Tasks), Builds: slices.Clone(w.Builds), Classes: Classes(w.Classes),
+	}
+}
+
+// Classes answers these classes in memory of their own.
+func Classes(l []api.Class) []api.Class {
+	l = slices.Clone(l)
+	for i, c := range l {
+		l[i] = Class(c)
+	}
+	return l
+}
+
 // Class answers c in memory of its own.
 func Class(c api.Class) api.Class {
 	hooks := slices.Clone(c.Hooks)

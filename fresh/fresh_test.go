@@ -108,3 +108,30 @@ func TestClass(t *testing.T) {
 		t.Errorf("lists of the copy share memory: %v", c)
 	}
 }
+
+// A world's copy is the same, and shares none of its parts' memory.
+func TestWorld(t *testing.T) {
+	all := sample.RightWorlds()
+	all["nothing"], all["a realm"], all["empty lists"] = api.World{}, sample.Realm(3), api.World{States: []api.State{}, Tasks: []api.Task{}, Builds: []api.Build{}, Classes: []api.Class{}}
+	for what, w := range all {
+		if v, fault := sample.AskWorld(w, fresh.World); fault != "" || !sample.SameWorld(v, w) {
+			t.Errorf("%s: not the same, or not carefully copied: %s", what, fault)
+		}
+	}
+}
+
+// So it is of classes, even where some of them are one and the same.
+func TestClasses(t *testing.T) {
+	once := sample.Classes()
+	for _, all := range [][]api.Class{nil, {}, {{}}, once, {once[1], once[0], once[1]}} {
+		l, _, fault := sample.AskClasses(all, func(l []api.Class) ([]api.Class, []api.Op) { return fresh.Classes(l), nil })
+		if fault != "" || !sample.SameClasses(l, all) {
+			t.Errorf("not the same, or not carefully copied: %q, %v", fault, l)
+		}
+	}
+	twice := fresh.Classes([]api.Class{once[1], once[1]})
+	twice[0].Make[0].S, twice[0].Watch[0] = "mine", "mine"
+	if twice[1].Make[0].S == "mine" || twice[1].Watch[0] == "mine" || once[1].Make[0].S == "mine" {
+		t.Errorf("classes of the copy share memory: %v", twice)
+	}
+}

@@ -1,4 +1,4 @@
-// Package sample is for the tests of the layers: forests, desks, lines, classes and states to ask of, right ones
+// Package sample is for the tests of the layers: forests, desks, lines, classes, states and worlds to ask of, right ones
 // and wrong ones, and means to see whether somebody changed or kept them. No layer's program leans on it.
 package sample
 

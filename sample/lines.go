@@ -104,8 +104,14 @@ func WrongLines() map[string]api.Line {
 
 // Rank answers a line that chance has put together, the same one for each seed; it is right.
 func Rank(seed int) api.Line {
-	c, t := chance(seed), Todos()
-	l := api.Line{Todos: make([][]api.Todo, 1+c.below(5)), Busy: c.below(2) == 0}
+	c := chance(seed)
+	return c.line(1 + c.below(5))
+}
+
+// line answers a line of so many nodes.
+func (c *chance) line(nodes int) api.Line {
+	t := Todos()
+	l := api.Line{Todos: make([][]api.Todo, nodes), Busy: c.below(2) == 0}
 	some := func() []int {
 		var list []int
 		for range c.below(4) {
